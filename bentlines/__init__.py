@@ -1,0 +1,1 @@
+"""Bentlines: lines that cross pair by pair once, straight or bent."""

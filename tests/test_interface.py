@@ -1,0 +1,92 @@
+"""The interface: each name under its heading, with its arguments, defined in that very file."""
+
+import ast
+import importlib
+import inspect
+import unittest
+
+from bentlines.charts import Chart
+from bentlines.drawings import Drawing
+from bentlines.links import ring_of_links
+from bentlines.rules import ring, ringed
+from bentlines.threes import fours, threes
+
+FUNCTIONS = {
+    "numbers": ("is_int(value)", "check_int(value, word, least, most)", "choose(n, k)"),
+    "threes": ("threes(size)", "fours(size)", "order_sign(names)", "lot_of(value, size)", "pair_of(value, size)",
+               "three_of(value, size)", "four_of(value, size)", "inside(lot, other)", "unlike(lot, other)"),
+    "rules": ("row_of(chart, four)", "is_good(row)", "ahead(chart, line, first, second)", "ring(chart, line)",
+              "ringed(chart)", "meetings(chart, line)"),
+    "texts": ("chart_text(chart)", "chart_from(text)", "lot_text(lot)", "lot_from(text, size)"),
+    "rows": ("first_row(size)", "last_row(size)", "is_rising(row, turn)", "turned(row, turn)", "highest(row, j)",
+             "stand(row, line)"),
+    "links": ("knot_of(chart, pair)", "knots_of(chart)", "linked(chart, knot, other)", "ahead_of(chart, knot)",
+              "closed(chart, knots)", "is_closed(chart, knots)", "ready(chart, knots)", "is_order(chart, knots)",
+              "ring_of_links(chart)"),
+}
+
+CLASSES = {
+    Chart: ("charts", "__init__(self, size, signs)", "sign(self, names)", "part(self, lot)", "contrary(self)",
+            "mirrored(self)", "rolled(self, times=1)", "__neg__(self)", "__invert__(self)",
+            "__rshift__(self, other)", "__lshift__(self, other)", "__add__(self, other)", "__getitem__(self, at)",
+            "__eq__(self, other)", "__len__(self)", "__iter__(self)"),
+    Drawing: ("drawings", "__init__(self, size, turns)", "rows(self)", "row_behind(self, many)", "knots(self)",
+              "chart(self)", "mirrored(self)", "__eq__(self, other)", "__len__(self)", "__iter__(self)"),
+}
+
+
+class InterfaceTest(unittest.TestCase):
+    def test_functions(self):
+        for module, headings in FUNCTIONS.items():
+            found = importlib.import_module("bentlines." + module)
+            for heading in headings:
+                name = heading.split("(")[0]
+                function = vars(found)[name]
+                self.assertEqual(heading, name + str(inspect.signature(function)))
+                self.assertEqual("bentlines." + module, function.__module__)
+
+    def test_classes(self):
+        for made, (module, *headings) in CLASSES.items():
+            self.assertEqual("bentlines." + module, made.__module__)
+            for heading in headings:
+                name = heading.split("(")[0]
+                self.assertEqual(heading, name + str(inspect.signature(vars(made)[name])))
+
+    def test_class_methods_and_properties(self):
+        for name in ("fan", "told"):
+            self.assertIsInstance(vars(Chart)[name], classmethod)
+        for name in ("bad", "sound", "simple", "marks"):
+            self.assertIsInstance(vars(Chart)[name], property)
+        self.assertIsInstance(vars(Drawing)["of"], classmethod)
+        self.assertIsInstance(vars(Drawing)["first_row"], staticmethod)
+
+    def test_yielding(self):
+        self.assertTrue(inspect.isgenerator(threes(3)))
+        self.assertTrue(inspect.isgenerator(fours(3)))
+        self.assertTrue(inspect.isgenerator(Drawing(1, []).rows()))
+
+    def test_the_package_itself_has_no_names(self):
+        with open(importlib.import_module("bentlines").__file__, encoding="ascii") as file:
+            body = ast.parse(file.read()).body
+        self.assertEqual([ast.Expr], [part.__class__ for part in body])
+
+
+class SameAnswersTest(unittest.TestCase):
+    """[1] Equal arguments always give equal answers, and what is returned is new."""
+
+    def test_made_charts_are_new(self):
+        chart = Chart.fan(3)
+        for other in (chart.rolled(0), chart >> 6, chart.part([0, 1, 2]), ~~chart):
+            self.assertEqual(chart, other)
+            self.assertIsNot(chart, other)
+
+    def test_equal_answers(self):
+        bad = Chart.told(5, "+-++-+-+0-")
+        again = Chart(5, list(bad))
+        self.assertEqual(ringed(bad), ringed(again))
+        self.assertEqual([ring(bad, line) for line in range(5)], [ring(again, line) for line in range(5)])
+        self.assertEqual(ring_of_links(Chart.told(4, "+-++")), ring_of_links(Chart(4, (1, -1, 1, 1))))
+
+
+if __name__ == "__main__":
+    unittest.main()
