@@ -2,7 +2,7 @@
 
 from bentlines.errors import BadKind, BadSigns, TooMany, Unsound
 from bentlines.numbers import check_int, choose, is_int
-from bentlines.threes import check_size, fours, lot_of, order_sign, three_of, threes
+from bentlines.threes import check_size, fours_in, lot_of, order_sign, three_of, threes_in
 
 MARKS = "-0+"
 
@@ -89,7 +89,7 @@ class Chart:
         self.size = size
         self.signs = tuple(signs)
         self.lines = tuple(range(size))
-        self._table = dict(zip(threes(size), self.signs))
+        self._table = dict(zip(threes_in(self.lines), self.signs))
 
     @classmethod
     def fan(cls, size):
@@ -113,7 +113,7 @@ class Chart:
     @property
     def bad(self):
         """The least four whose row is not good; None if the chart is sound."""
-        for four in fours(self.size):
+        for four in fours_in(self.lines):
             if not good_row(signs_of_four(self, four)):
                 return four
         return None
@@ -147,8 +147,7 @@ class Chart:
         names = lot_of(lot, self.size)
         if not names:
             raise BadKind("lot")
-        signs = [self.lot_sign((names[i], names[j], names[k])) for i, j, k in threes(len(names))]
-        return Chart(len(names), signs)
+        return Chart(len(names), [self.lot_sign(three) for three in threes_in(names)])
 
     def contrary(self):
         """Return the chart with every sign negated."""
@@ -157,7 +156,7 @@ class Chart:
     def mirrored(self):
         """Return the chart in which line x is renamed n-1-x."""
         last = self.size - 1
-        signs = [self.lot_sign((last - k, last - j, last - i)) for i, j, k in threes(self.size)]
+        signs = [self.lot_sign((last - k, last - j, last - i)) for i, j, k in threes_in(self.lines)]
         return Chart(self.size, signs)
 
     def rolled(self, times=1):
@@ -167,7 +166,7 @@ class Chart:
         whole = times % (2 * self.size)
         rest = whole % self.size
         chart = self if whole < self.size else self.contrary()
-        return Chart(self.size, [rolled_sign(chart, three, rest) for three in threes(self.size)])
+        return Chart(self.size, [rolled_sign(chart, three, rest) for three in threes_in(self.lines)])
 
     def __neg__(self):
         return self.contrary()
@@ -186,7 +185,7 @@ class Chart:
         many = self.size + other.size
         if many > Chart.MOST:
             raise TooMany("lines")
-        return Chart(many, [beside_sign(self, other, three) for three in threes(many)])
+        return Chart(many, [beside_sign(self, other, three) for three in threes_in(list(range(many)))])
 
     def __getitem__(self, at):
         return self.sign(at)

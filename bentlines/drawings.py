@@ -5,7 +5,7 @@ from bentlines.errors import BadKind, BadTurn
 from bentlines.links import knots_on
 from bentlines.numbers import check_int, sign_of
 from bentlines.rows import lines_of_turn, row_behind_turn, stands_rising, turn_fits
-from bentlines.threes import check_size, threes
+from bentlines.threes import check_size, threes_in
 
 
 def check_drawing(drawing):
@@ -96,7 +96,7 @@ class Drawing:
             for first in knot:
                 for second in knot:
                     when[(first, second)] = at
-        signs = [sign_of(when[(j, k)] - when[(i, j)]) for i, j, k in threes(self.size)]
+        signs = [sign_of(when[(j, k)] - when[(i, j)]) for i, j, k in threes_in(list(range(self.size)))]
         return Chart(self.size, signs)
 
     def mirrored(self):

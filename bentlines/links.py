@@ -4,7 +4,7 @@ from bentlines.charts import check_chart, check_sound, signs_of_four
 from bentlines.errors import BadKind, NotReady, Unsound
 from bentlines.numbers import is_int
 from bentlines.rules import levels_on, met
-from bentlines.threes import fours, inside, pair_of
+from bentlines.threes import fours_in, inside, pair_of
 
 
 def knot_of(chart, pair):
@@ -78,7 +78,7 @@ def is_order(chart, knots):
 def ring_of_links(chart):
     """Return any ring of links, a tuple of knots, or None if there is none."""
     check_chart(chart)
-    for four in fours(chart.size):
+    for four in fours_in(chart.lines):
         if signs_of_four(chart, four).count(0) in (2, 3):
             raise Unsound(four)
     knots = all_knots(chart)

@@ -2,7 +2,7 @@
 
 from bentlines.charts import check_chart, check_sound, good_row, is_sign, signs_of_four
 from bentlines.errors import BadKind
-from bentlines.threes import check_line, four_of, three_of, threes
+from bentlines.threes import check_line, four_of, three_of, threes_in
 
 
 def row_of(chart, four):
@@ -37,11 +37,10 @@ def ring(chart, line):
     """Return any ring on the line as a tuple, or None if there is none."""
     check_chart(chart)
     check_line(line, chart.size)
-    for three in threes(chart.size):
-        if line not in three:
-            found = ring_of(chart, line, three)
-            if found is not None:
-                return found
+    for three in threes_in([other for other in chart.lines if other != line]):
+        found = ring_of(chart, line, three)
+        if found is not None:
+            return found
     return None
 
 

@@ -18,23 +18,31 @@ def check_line(line, size):
     return line
 
 
+def pairs_in(names):
+    """Return the list of all pairs of the names, in the order in which they stand."""
+    return [(first, second) for at, first in enumerate(names) for second in names[at + 1:]]
+
+
+def threes_in(names):
+    """Return the list of all threes of the names, in the order in which they stand."""
+    return [(first, *pair) for at, first in enumerate(names) for pair in pairs_in(names[at + 1:])]
+
+
+def fours_in(names):
+    """Return the list of all fours of the names, in the order in which they stand."""
+    return [(first, *three) for at, first in enumerate(names) for three in threes_in(names[at + 1:])]
+
+
 def threes(size):
     """Yield all threes of so many lines, ascending."""
     check_size(size)
-    for i in range(size):
-        for j in range(i + 1, size):
-            for k in range(j + 1, size):
-                yield (i, j, k)
+    yield from threes_in(list(range(size)))
 
 
 def fours(size):
     """Yield all fours of so many lines, ascending."""
     check_size(size)
-    for i in range(size):
-        for j in range(i + 1, size):
-            for k in range(j + 1, size):
-                for m in range(k + 1, size):
-                    yield (i, j, k, m)
+    yield from fours_in(list(range(size)))
 
 
 def order_sign(names):
