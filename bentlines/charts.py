@@ -58,6 +58,12 @@ def check_sound(chart):
         raise Unsound(four)
 
 
+def with_signs(chart, changed):
+    """Return the chart with other signs at some threes; changed has the sign of each of these."""
+    signs = [changed.get(three, sign) for three, sign in zip(threes_in(chart.lines), chart.signs)]
+    return Chart(chart.size, signs)
+
+
 def rolled_sign(chart, three, times):
     """Return the sign that an ascending three gets if the chart is rolled 0 .. n-1 times."""
     old = tuple(sorted([(line - times) % chart.size for line in three]))

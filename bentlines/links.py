@@ -1,7 +1,7 @@
 """Knots of a chart, the links between them, and the orders that links allow."""
 
 from bentlines.charts import check_chart, check_sound, signs_of_four
-from bentlines.errors import BadKind, NotReady, Unsound
+from bentlines.errors import BadKind, NotReady, NotSimple, Unsound
 from bentlines.numbers import is_int
 from bentlines.rules import levels_on, met
 from bentlines.threes import fours_in, inside, pair_of
@@ -53,26 +53,15 @@ def is_closed(chart, knots):
 
 def ready(chart, knots):
     """Return the knots that are ready behind the closed lot, ascending."""
-    lot = checked_lot(chart, knots)
+    lot = checked_closed(chart, knots)
     back = links_back(chart)
-    wrong = least_unready(back, lot)
-    if wrong is not None:
-        raise NotReady(wrong)
-    return tuple([knot for knot in all_knots(chart) if knot not in lot and inside(back[knot], lot)])
+    return tuple([knot for knot in back if knot not in lot and inside(back[knot], lot)])
 
 
 def is_order(chart, knots):
     """Return whether the knots, in this sequence, are an order."""
-    check_chart(chart)
-    check_knots(knots)
-    check_sound(chart)
-    known = all_knots(chart)
-    order = [knot_from(known, knot) for knot in knots]
-    if sorted(order) != list(known):
-        return False
-    stands = {knot: at for at, knot in enumerate(order)}
-    back = links_back(chart)
-    return all([stands[first] < stands[knot] for knot in known for first in back[knot]])
+    order = checked_sequence(chart, knots)
+    return has_each_once(chart, order) and first_unready(links_back(chart), order) is None
 
 
 def ring_of_links(chart):
@@ -124,6 +113,15 @@ def check_knots(knots):
     return knots
 
 
+def checked_sequence(chart, knots):
+    """Return the list of these knots of a sound chart, in the order given, with all errors due."""
+    check_chart(chart)
+    check_knots(knots)
+    check_sound(chart)
+    known = all_knots(chart)
+    return [knot_from(known, knot) for knot in knots]
+
+
 def checked_lot(chart, knots):
     """Return a lot of knots of a sound chart as an ascending tuple, with all errors due."""
     check_chart(chart)
@@ -137,6 +135,27 @@ def checked_lot(chart, knots):
             raise BadKind("knots")
         lot.append(knot)
     return tuple(sorted(lot))
+
+
+def checked_closed(chart, knots):
+    """Return a closed lot of knots as an ascending tuple, with all errors due."""
+    lot = checked_lot(chart, knots)
+    wrong = least_unready(links_back(chart), lot)
+    if wrong is not None:
+        raise NotReady(wrong)
+    return lot
+
+
+def check_simple(chart):
+    """Raise NotSimple, with the least knot of more than two lines, unless the sound chart is simple."""
+    for knot in all_knots(chart):
+        if len(knot) > 2:
+            raise NotSimple(knot)
+
+
+def has_each_once(chart, order):
+    """Return whether a list of knots has all knots of the chart, each once."""
+    return sorted(order) == list(all_knots(chart))
 
 
 def has_link(chart, knot, other):
@@ -154,7 +173,7 @@ def knots_on(chart, line):
 
 
 def links_back(chart):
-    """Return for each knot the knots that some line of it meets directly ahead of it.
+    """Return for each knot, ascending, the knots that some line of it meets directly ahead of it.
 
     All other links follow from these.
     """
@@ -185,6 +204,16 @@ def least_unready(back, lot):
     for knot in lot:
         if not inside(with_all_before(back, [knot]), kept):
             return knot
+    return None
+
+
+def first_unready(back, order):
+    """Return the first knot of the sequence that is not ready behind those before it, or None."""
+    done = {}
+    for knot in order:
+        if not inside(back[knot], done):
+            return knot
+        done[knot] = True
     return None
 
 

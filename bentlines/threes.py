@@ -33,6 +33,14 @@ def fours_in(names):
     return [(first, *three) for at, first in enumerate(names) for three in threes_in(names[at + 1:])]
 
 
+def lots_in(names):
+    """Return the list of all lots of ascending names, ascending."""
+    found = [()]
+    for name in names[::-1]:
+        found = [()] + [(name, *lot) for lot in found] + found[1:]
+    return found
+
+
 def threes(size):
     """Yield all threes of so many lines, ascending."""
     check_size(size)

@@ -8,6 +8,8 @@ import unittest
 from bentlines.charts import Chart
 from bentlines.drawings import Drawing
 from bentlines.links import ring_of_links
+from bentlines.loose import loosenings
+from bentlines.places import all_places
 from bentlines.rules import ring, ringed
 from bentlines.threes import fours, threes
 
@@ -23,6 +25,23 @@ FUNCTIONS = {
     "links": ("knot_of(chart, pair)", "knots_of(chart)", "linked(chart, knot, other)", "ahead_of(chart, knot)",
               "closed(chart, knots)", "is_closed(chart, knots)", "ready(chart, knots)", "is_order(chart, knots)",
               "ring_of_links(chart)"),
+    "drawn": ("drawing_along(chart, knots)", "normal_order(chart)", "row_after(chart, knots)", "count_rows(chart)"),
+    "exchanges": ("is_far(drawing, at)", "exchanged(drawing, at)", "orders_apart(drawing, other)",
+                  "exchange_way(drawing, other)"),
+    "steps": ("steps_of(chart)", "is_steps(chart, steps)", "longest_chain(chart)"),
+    "crossings": ("side_of(chart, pair, line)", "above(chart, pair)", "depth(chart, pair)", "edges_of(chart, knot)",
+                  "edge_of(chart, pair)", "edge_counts(chart)", "knots_over(chart, edge)"),
+    "loose": ("simple_count(size)", "loosened(chart, knot, signs)", "count_loosenings(chart)", "loosenings(chart)",
+              "whole_loosened(chart, sign)"),
+    "ties": ("parting(chart, lot)", "can_tie(chart, lot)", "tied(chart, lot)", "tie_lots(chart)"),
+    "ends": ("first_on(chart, line)", "last_on(chart, line)", "first_knots(chart)", "last_knots(chart)"),
+    "places": ("wrong_three(chart, lot)", "wrong_count(chart, lot)", "is_place(chart, lot)", "all_places(chart)",
+               "endless(size)", "is_endless(size, lot)", "level_places(chart, many)"),
+    "sides": ("upper_sides(chart, place)", "lower_sides(chart, place)", "sides(chart, place)",
+              "left_corner(chart, place)", "right_corner(chart, place)", "is_bounded(chart, place)",
+              "across(chart, place, line)", "side_sum(chart)"),
+    "walks": ("distance(lot, other)", "step_toward(chart, place, other)", "walk(chart, place, other)",
+              "is_walk(chart, place, lines)"),
 }
 
 CLASSES = {
@@ -64,6 +83,8 @@ class InterfaceTest(unittest.TestCase):
         self.assertTrue(inspect.isgenerator(threes(3)))
         self.assertTrue(inspect.isgenerator(fours(3)))
         self.assertTrue(inspect.isgenerator(Drawing(1, []).rows()))
+        self.assertTrue(inspect.isgenerator(loosenings(Chart.fan(3))))
+        self.assertTrue(inspect.isgenerator(all_places(Chart.fan(3))))
 
     def test_the_package_itself_has_no_names(self):
         with open(importlib.import_module("bentlines").__file__, encoding="ascii") as file:

@@ -7,68 +7,18 @@ from math import comb
 from bentlines.charts import Chart
 from bentlines.errors import BadKind, BadLine, NotReady, Unsound
 from bentlines.links import ahead_of, closed, is_closed, is_order, knot_of, knots_of, linked, ready, ring_of_links
-from tests.helpers import (NO_CHARTS, NO_INTEGERS, NO_LISTS, UNSOUND, DueCase, every_chart, every_drawing,
-                           every_sound_chart, some_charts, some_drawings)
-
-NO_KNOTS = (*NO_LISTS, [], (), [0], [0, 1], (1, 2), [0, 1, 2, 3], [0, 0, 3], (0, 4), [-1, 0], (False, 3), [0, "3"],
-            [3, None], (0, 3.0), [0, 3, 3])
-# Its knots are 012, 03, 13, 23.
-WITH_KNOT = Chart.told(4, "0+++")
+from tests.helpers import (NO_CHARTS, NO_INTEGERS, NO_KNOTS, NO_LISTS, UNSOUND, WITH_KNOT, DueCase, every_chart,
+                           every_drawing, every_lot, every_sound_chart, small_charts, some_charts, some_drawings,
+                           told_before, told_knots, told_linked, told_row)
 
 
 def sound_charts():
-    small = [chart for size in (1, 2, 3, 4) for chart in every_sound_chart(size)]
-    return small + [drawing.chart() for size in (5, 6, 7) for drawing in some_drawings(size, 5)]
+    return small_charts() + [drawing.chart() for size in (6, 7) for drawing in some_drawings(size, 5)]
 
 
 def larger_charts():
     drawings = [drawing for size in (9, 12, 16) for drawing in some_drawings(size, 4)]
     return [drawing.chart() for drawing in drawings] + [Chart.fan(16)]
-
-
-def told_knots(chart):
-    """The knots by the words of [19]: the largest lots all of whose threes have the sign 0."""
-    flat = [lot for many in range(2, chart.size + 1) for lot in combinations(range(chart.size), many)
-            if all(chart.sign(three) == 0 for three in combinations(lot, 3))]
-    return sorted(lot for lot in flat if not any(set(lot) < set(other) for other in flat))
-
-
-def told_linked(chart, knot, other):
-    """Whether knot is linked to other, by the words of [20]."""
-    for line in set(knot) & set(other):
-        for first in knot:
-            for second in other:
-                if len({line, first, second}) == 3:
-                    sign = chart.sign(sorted((line, first, second)))
-                    if (sign if first < second else -sign) == 1:
-                        return True
-    return False
-
-
-def told_before(chart):
-    """For each knot the knots before it, by the words of [20]."""
-    knots = told_knots(chart)
-    before = {knot: {other for other in knots if told_linked(chart, other, knot)} for knot in knots}
-    for middle in knots:
-        for knot in knots:
-            if middle in before[knot]:
-                before[knot] |= before[middle]
-    return before
-
-
-def told_row(chart, lot):
-    """The row behind a closed lot, by the words of [24]."""
-    where = {pair: knot for knot in told_knots(chart) for pair in combinations(knot, 2)}
-    stands = {}
-    for line in range(chart.size):
-        higher = [x for x in range(line) if where[x, line] not in lot]
-        higher += [x for x in range(line + 1, chart.size) if where[line, x] in lot]
-        stands[len(higher)] = line
-    return tuple(stands[at] for at in range(chart.size))
-
-
-def every_lot(knots):
-    return [lot for many in range(len(knots) + 1) for lot in combinations(knots, many)]
 
 
 class KnotsTest(DueCase):
