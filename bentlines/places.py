@@ -31,8 +31,6 @@ def is_place(chart, lot):
 
 def all_places(chart):
     """Yield all places, ascending."""
-    check_chart(chart)
-    check_sound(chart)
     yield from places_of(chart)
 
 
@@ -40,7 +38,7 @@ def endless(size):
     """Return the endless lots of so many lines, ascending."""
     check_size(size)
     lines = tuple(range(size))
-    return tuple(sorted([lines[:a] for a in range(size + 1)] + [lines[a:] for a in range(1, size)]))
+    return tuple([lines[:a] for a in range(size + 1)] + [lines[a:] for a in range(1, size)])
 
 
 def is_endless(size, lot):
@@ -52,7 +50,6 @@ def level_places(chart, many):
     """Return the places with so many lines, ascending."""
     check_chart(chart)
     check_int(many, "many", 0, chart.size)
-    check_sound(chart)
     return tuple([place for place in places_of(chart) if len(place) == many])
 
 
@@ -73,7 +70,7 @@ def check_place(chart, lot):
 
 
 def places_of(chart):
-    """Return the list of all places of a sound chart, ascending."""
+    """Return the list of all places of a chart, which is asked for and must be sound, ascending."""
     # The rows of any one drawing have all places as their highest lines.
     drawing = Drawing.of(chart)
     rows = list(drawing.rows())

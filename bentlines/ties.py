@@ -54,7 +54,8 @@ def parting_of(chart, lot):
         if line not in lot:
             sides = [side_at(chart, pair, line) for pair in pairs]
             if sides != [sides[0]] * len(sides):
-                return (line, *unlike_pairs(pairs, sides))
+                first, second = unlike_pairs(pairs, sides)
+                return (line, first, second)
     return None
 
 

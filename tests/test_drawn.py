@@ -13,10 +13,13 @@ from tests.helpers import (NO_KNOTS, NO_LISTS, UNSOUND, WITH_KNOT, DueCase, draw
 
 # All knots of WITH_KNOT, in their only order.
 ORDER = [(0, 1, 2), (0, 3), (1, 3), (2, 3)]
-# A chart of 13 lines with just 4000 closed lots, found by negating signs of a chart with nearly as many.
-JUST_4000 = ("--------------++-------++++-0--++++-+++++++++------------------++-000+++++++00+++++++0++++++++++++++-------"
-             "---------+-++-00+++++++0++++++++++++++------------------++-0++++++++++++++------------------++-+++++++-----"
-             "-------------++-------------------++-----------+-++-00++0+++++0++++-++--")
+# Charts of 13 lines with just 4000 and 4001 closed lots, found by negating signs of a chart with nearly as many.
+JUST_4000 = ("--------------++-------++++-0--++++-+++++++++------------------++-000+++++++00+++++++0++++++++++++++"
+             "----------------+-++-00+++++++0++++++++++++++------------------++-0++++++++++++++------------------+"
+             "+-+++++++------------------++-------------------++-----------+-++-00++0+++++0++++-++--")
+JUST_4001 = ("-----------------------++++-0--++++-+++++++++------------------++-000+++++++00+++++++0++++++++++++++"
+             "----------------++++-00+++++++0++++++++++++++----------------+-++-0++++++++++++++------------------+"
+             "+-+++++++------------------++-------------------++-----------++++-00++0++++00++++-++--")
 
 
 def told_normal_order(chart):
@@ -159,6 +162,7 @@ class CountRowsTest(DueCase):
             self.assertEqual(2 ** (size - 1), count_rows(Chart.fan(size)))
             self.assertEqual(2 ** (size - 1), count_rows(-Chart.fan(size)))
         self.assertEqual(4000, count_rows(Chart.told(13, JUST_4000)))
+        self.due(TooMany, {"word": "rows"}, count_rows, Chart.told(13, JUST_4001))
         for size in (13, 14, 16):
             self.due(TooMany, {"word": "rows"}, count_rows, Chart.fan(size))
 

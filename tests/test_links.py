@@ -298,8 +298,9 @@ class RingOfLinksTest(DueCase):
     def test_many_lines(self):
         for chart in larger_charts():
             self.assertIsNone(ring_of_links(chart))
-        ring = ring_of_links(Chart.fan(12) + UNSOUND)
-        self.assertIs(True, all(told_linked(Chart.fan(12) + UNSOUND, ring[at - 1], ring[at]) for at in range(len(ring))))
+        chart = Chart.fan(12) + UNSOUND
+        ring = ring_of_links(chart)
+        self.assertTrue(all(told_linked(chart, ring[at - 1], ring[at]) for at in range(len(ring))))
 
     def test_refusals(self):
         for value in NO_CHARTS:

@@ -4,7 +4,8 @@ import unittest
 from itertools import combinations, permutations
 
 from bentlines.errors import BadKind, BadLine, BadNumber
-from bentlines.threes import four_of, fours, inside, lot_of, order_sign, pair_of, three_of, threes, unlike
+from bentlines.threes import (four_of, fours, fours_in, inside, lot_of, lots_in, order_sign, pair_of, pairs_in,
+                              three_of, threes, threes_in, unlike)
 from tests.helpers import NO_INTEGERS, NO_LISTS, DueCase
 
 BAD_SIZES = (*NO_INTEGERS, 0, 17, -1, 10 ** 299)
@@ -18,6 +19,14 @@ class ThreesTest(DueCase):
         for size in range(1, 17):
             self.assertEqual(list(combinations(range(size), 3)), list(threes(size)))
             self.assertEqual(list(combinations(range(size), 4)), list(fours(size)))
+
+    def test_lists(self):
+        """The lists of pairs, threes and fours, and of all lots, ascending."""
+        for names in ([], (3,), [0, 2, 5, 9, 11, 12], tuple(range(8))):
+            for many, call in ((2, pairs_in), (3, threes_in), (4, fours_in)):
+                self.assertEqual(list(combinations(names, many)), call(names))
+            lots = [lot for many in range(len(names) + 1) for lot in combinations(names, many)]
+            self.assertEqual(sorted(lots), lots_in(names))
 
     def test_size_is_checked(self):
         """[3] A size is an integer from 1 to 16."""
