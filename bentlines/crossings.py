@@ -2,9 +2,9 @@
 
 from bentlines.charts import check_chart, check_sound
 from bentlines.errors import BadLine, NotSimple
-from bentlines.links import all_knots, check_simple, knot_from, knot_of
+from bentlines.links import all_knots, check_sound_simple, knot_from, knot_of
 from bentlines.numbers import check_int
-from bentlines.threes import check_line, pair_of
+from bentlines.threes import check_line, pair_of, pairs_in
 
 
 def side_of(chart, pair, line):
@@ -49,11 +49,8 @@ def edge_of(chart, pair):
 def edge_counts(chart):
     """Return for a simple chart 0 and the edge counts of the edges 1 .. n-1."""
     check_chart(chart)
-    check_sound(chart)
-    check_simple(chart)
-    edges = [knot_edges(chart, knot)[0] for knot in all_knots(chart)]
-    # No knot goes over an edge 0, so that the count of line 0 is the 0 in front.
-    return tuple([edges.count(edge) for edge in chart.lines])
+    check_sound_simple(chart)
+    return simple_counts(chart)
 
 
 def knots_over(chart, edge):
@@ -80,3 +77,20 @@ def knot_edges(chart, knot):
     """Return the edges that the knot goes over, ascending; nothing is checked."""
     p = len(lines_above(chart, knot[:2]))
     return tuple(range(p + 1, p + len(knot)))
+
+
+def simple_edge(chart, pair):
+    """Return the edge that the meeting of an ascending pair of a simple chart goes over; nothing is checked."""
+    return len(lines_above(chart, pair)) + 1
+
+
+def pairs_at(chart, edge):
+    """Return the list of the pairs of a simple chart that meet over the edge, ascending; nothing is checked."""
+    return [pair for pair in pairs_in(chart.lines) if simple_edge(chart, pair) == edge]
+
+
+def simple_counts(chart):
+    """Return what edge_counts returns, for a simple chart; nothing is checked."""
+    edges = [simple_edge(chart, pair) for pair in pairs_in(chart.lines)]
+    # No meeting goes over an edge 0, so that the count of line 0 is the 0 in front.
+    return tuple([edges.count(edge) for edge in chart.lines])

@@ -153,6 +153,12 @@ def check_simple(chart):
             raise NotSimple(knot)
 
 
+def check_sound_simple(chart):
+    """Raise Unsound or NotSimple unless the chart is sound and simple."""
+    check_sound(chart)
+    check_simple(chart)
+
+
 def has_each_once(chart, order):
     """Return whether a list of knots has all knots of the chart, each once."""
     return sorted(order) == list(all_knots(chart))

@@ -1,9 +1,9 @@
 """Loosenings: crossings of many lines in one point pulled apart."""
 
 from bentlines.charts import Chart, check_chart, check_sound, with_signs
-from bentlines.errors import BadNumber, TooMany
-from bentlines.links import all_knots, check_simple, knot_from
-from bentlines.numbers import check_int
+from bentlines.errors import TooMany
+from bentlines.links import all_knots, check_sound_simple, knot_from
+from bentlines.numbers import check_int, check_one
 from bentlines.threes import threes_in
 
 # How many simple sound charts there are of 1, 2, .. lines.
@@ -23,8 +23,7 @@ def loosened(chart, knot, signs):
     check_sound(chart)
     names = knot_from(all_knots(chart), knot)
     part = Chart(len(names), signs)
-    check_sound(part)
-    check_simple(part)
+    check_sound_simple(part)
     return with_signs(chart, dict(zip(threes_in(names), part.signs)))
 
 
@@ -51,8 +50,7 @@ def loosenings(chart):
 def whole_loosened(chart, sign):
     """Return the chart in which each 0 is replaced by the sign, 1 or -1."""
     check_chart(chart)
-    if check_int(sign, "sign", -1, 1) == 0:
-        raise BadNumber("sign")
+    check_one(sign, "sign")
     check_sound(chart)
     return Chart(chart.size, [sign if old == 0 else old for old in chart.signs])
 

@@ -21,6 +21,13 @@ def check_int(value, word, least, most):
     return value
 
 
+def check_one(value, word):
+    """Return the value if it is 1 or -1."""
+    if check_int(value, word, -1, 1) == 0:
+        raise BadNumber(word)
+    return value
+
+
 def choose(n, k):
     """Return the number of ways to choose k of n things."""
     check_int(n, "n", None, None)

@@ -80,7 +80,12 @@ def places_of(chart):
 
 def first_wrong(chart, lot):
     """Return the least three that is wrong for the lot, or None; nothing is checked."""
-    for three in threes_in(chart.lines):
+    return wrong_in(chart, lot, chart.lines)
+
+
+def wrong_in(chart, lot, lines):
+    """Return the least three of these ascending lines that is wrong for the lot, or None; nothing is checked."""
+    for three in threes_in(lines):
         if is_wrong(chart, lot, three):
             return three
     return None

@@ -8,7 +8,7 @@ from math import comb
 
 from bentlines.charts import Chart
 from bentlines.drawings import Drawing
-from bentlines.errors import BadKind, BadLine, Unsound
+from bentlines.errors import BadKind, BadLine, BadNumber, NotSimple, NotTriangle, Unsound
 
 # Values that are no integer; True and False are among them.
 NO_INTEGERS = (True, False, None, "1", 1.0, (1,), [1])
@@ -81,6 +81,20 @@ def some_charts(size, many):
     return [Chart(size, [source.choice((-1, 0, 1)) for _ in range(comb(size, 3))]) for _ in range(many)]
 
 
+def some_simple_charts(size, many):
+    """Simple sound charts of so many lines, those of arbitrary drawings, the same in each run."""
+    source = random.Random(3000 * size + many)
+    found = []
+    for _ in range(many):
+        row = tuple(range(size))
+        turns = []
+        while choices := [turn for turn in every_turn(row) if turn[1] == 2]:
+            turns.append(source.choice(choices))
+            row = row_behind(row, turns[-1])
+        found.append(Drawing(size, turns).chart())
+    return found
+
+
 def lots(size, many):
     return list(combinations(range(size), many))
 
@@ -150,6 +164,42 @@ def small_charts():
     return [chart for size in (1, 2, 3, 4, 5) for chart in drawn_charts(size)]
 
 
+def few_charts():
+    """All sound charts of up to four lines, and some of five lines."""
+    return [chart for size in (1, 2, 3, 4) for chart in drawn_charts(size)] + drawn_charts(5)[::6]
+
+
+def small_simple_charts():
+    """All simple sound charts of up to five lines."""
+    return [chart for size in (1, 2, 3, 4, 5) for chart in simple_charts(size)]
+
+
+@cache
+def large_simple_charts():
+    """Simple sound charts of more lines: the fan and its contrary, and charts of some drawings."""
+    drawn = [chart for size in (6, 7, 8, 9) for chart in some_simple_charts(size, 4)]
+    return drawn + [Chart.fan(6), -Chart.fan(7), Chart.fan(3) + Chart.fan(4)]
+
+
+@cache
+def huge_simple_charts():
+    """Simple sound charts of many lines."""
+    return some_simple_charts(12, 2) + some_simple_charts(15, 1) + some_simple_charts(16, 2) + [Chart.fan(16)]
+
+
+def told_meeting(chart, line):
+    """The lines that the line of a simple chart meets, in the order of the turns of a drawing."""
+    met = [other for knot in Drawing.of(chart).knots() if line in knot for other in knot if other != line]
+    return tuple(met)
+
+
+def told_above(chart, first, second):
+    """The lines above the meeting of two lines, by the words of [31]."""
+    i, k = sorted((first, second))
+    return tuple(x for x in range(chart.size) if x not in (i, k)
+                 and chart.sign(sorted((i, k, x))) == (1 if i < x < k else -1))
+
+
 def large_charts():
     """Sound charts of more lines: fans, all lines in one knot, and charts of some drawings."""
     drawn = [drawing.chart() for size in (6, 7, 8) for drawing in some_drawings(size, 3)]
@@ -204,6 +254,35 @@ class DueCase(unittest.TestCase):
         """One line of UNSOUND is asked for, ahead of Unsound, behind the other arguments."""
         for value in (*NO_INTEGERS, 4, -1):
             self.due(BadLine, {"line": value}, call, UNSOUND, *others, value)
+
+    def asks_for_simplicity(self, call, *others):
+        """A chart that is not simple is told with its least knot, behind Unsound."""
+        self.due(NotSimple, {"knot": (0, 1, 2)}, call, WITH_KNOT, *others)
+        self.due(NotSimple, {"knot": (1, 2, 3)}, call, Chart.fan(1) + WITH_KNOT, *others)
+        self.due(NotSimple, {"knot": (0, 1, 2, 3)}, call, Chart(4, [0] * 4), *others)
+        self.due(Unsound, {"four": (0, 1, 2, 3)}, call, Chart.told(4, "+-0+"), *others)
+        self.asks_for_soundness(call, *others)
+
+    def asks_for_edge(self, call, *others):
+        """An edge of UNSOUND is asked for, ahead of Unsound, behind the other arguments."""
+        for value in (*NO_INTEGERS, 0, 4, -1):
+            self.due(BadNumber, {"word": "edge"}, call, UNSOUND, *others, value)
+
+    def asks_for_three(self, call, *others):
+        """A three of lines of UNSOUND is asked for, ahead of Unsound; others are the arguments behind it."""
+        for value in (*NO_LISTS, [], [0, 1], (0, 1, 2, 3), [9, 9]):
+            self.due(BadKind, {"word": "three"}, call, UNSOUND, value, *others)
+        for value in (*NO_INTEGERS, 4, -1):
+            self.due(BadLine, {"line": value}, call, UNSOUND, (0, value, 9), *others)
+        self.due(BadLine, {"line": 2}, call, UNSOUND, [2, 1, 2], *others)
+
+    def asks_for_triangle(self, call):
+        """A triangle is asked for, behind all that is asked of a simple chart."""
+        self.asks_for_chart(call, None)
+        self.asks_for_three(call)
+        self.asks_for_simplicity(call, [2, 0, 1])
+        self.due(NotTriangle, {"three": (0, 1, 3)}, call, Chart.fan(4), (3, 0, 1))
+        self.due(NotTriangle, {"three": (0, 2, 4)}, call, Chart.fan(5), [4, 0, 2])
 
     def asks_for_lot(self, call, *others):
         """A lot of lines of UNSOUND is asked for, ahead of Unsound; others are the arguments behind it."""

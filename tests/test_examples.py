@@ -2,21 +2,30 @@
 
 import unittest
 
+from bentlines.along import along, level_line
 from bentlines.charts import Chart
+from bentlines.closings import closing_by_names
+from bentlines.counters import Watch, best_row, gains
 from bentlines.crossings import above, depth, edge_counts, knots_over
+from bentlines.doors import Weight, door_list, door_table, weight
 from bentlines.drawings import Drawing
 from bentlines.drawn import count_rows, row_after
 from bentlines.ends import first_knots, last_knots
 from bentlines.errors import BadText
 from bentlines.exchanges import exchanged, orders_apart
+from bentlines.gaps import counts_behind
+from bentlines.lefts import abreast, left_knots, right_knots, row_at, split_by
 from bentlines.links import closed, ready
 from bentlines.loose import loosenings
+from bentlines.lots import lot_doors, told_doors
 from bentlines.places import all_places, wrong_count
 from bentlines.rules import ahead, meetings, ring
 from bentlines.sides import across, left_corner, lower_sides, right_corner, upper_sides
 from bentlines.steps import longest_chain, steps_of
 from bentlines.texts import chart_from
 from bentlines.ties import parting, tie_lots, tied
+from bentlines.triangles import triangle_place, triangles, turned_over
+from bentlines.turnings import both_ways, bounds, way_to_fan
 
 
 class ExamplesTest(unittest.TestCase):
@@ -80,6 +89,48 @@ class ExamplesTest(unittest.TestCase):
         found = (upper_sides(chart, (2, 1)), lower_sides(chart, (2, 1)), left_corner(chart, (1, 2)),
                  right_corner(chart, (1, 2)), across(chart, (1, 2), 3))
         self.assertEqual(((1,), (0, 3), (1, 0), (1, 3), (1, 2, 3)), found)
+
+    def test_lefts(self):
+        chart = Chart.told(4, "0+++")
+        found = (left_knots(chart, (1, 2)), right_knots(chart, (1, 2)), abreast(chart, (1, 2)), row_at(chart, (1, 2)),
+                 split_by(chart, (0,), 2))
+        self.assertEqual((((0, 1, 2),), ((1, 3), (2, 3)), ((0, 3),), (2, 1, 0, 3), (False, True)), found)
+
+    def test_doors(self):
+        chart = Chart.told(4, "0+++")
+        found = (door_table(chart, (1, 2)), door_list(chart, (1, 2), 2), Weight((1, 2))(chart, (2, 1, 0), 1),
+                 weight(2, 3, 4))
+        told = (((1, 1), (1, 1), (0, 0)), [((0, 1, 2), 1, "left"), ((1, 3), 1, "right")], 1, 1)
+        self.assertEqual(told, found)
+
+    def test_counters(self):
+        chart = Chart.told(4, "0+++")
+        drawing = Drawing.of(chart)
+        found = (Watch((2, 1))(drawing)[:2], best_row(drawing, (1, 2)), best_row(drawing, (1,)),
+                 gains(chart, (1, 2), (1, 3)))
+        self.assertEqual(([(0, 1, 2), (1, 2, 2)], (1, 0), (0, 1), (0, -1, 0)), found)
+
+    def test_lots_and_along(self):
+        chart = Chart.told(3, "-")
+        found = (lot_doors(chart, (1,)), told_doors(3, (1,)), along(chart, 1, 2), level_line(chart, 1))
+        self.assertEqual(((1, 2), (1, 1), ((2, 1), (0, -1)), (1, 2, 0, 1)), found)
+
+    def test_triangles(self):
+        fan = Chart.fan(4)
+        behind = turned_over(fan, (2, 0, 1))
+        found = (triangles(fan), behind.marks, triangles(behind), triangle_place(fan, (1, 2, 3)))
+        self.assertEqual((((0, 1, 2), (1, 2, 3)), "-+++", ((0, 1, 2), (0, 1, 3)), (2,)), found)
+
+    def test_turnings(self):
+        chart = Chart.told(4, "--++")
+        fan = Chart.fan(4)
+        found = (way_to_fan(chart), bounds(chart, fan), both_ways(fan, (0, 1, 2), (1, 2, 3)))
+        self.assertEqual(([(0, 1, 3), (0, 1, 2)], (2, 2), (None, None)), found)
+
+    def test_closings_and_gaps(self):
+        found = (closing_by_names([3, 0], [1, 2]), closing_by_names([4, 2, 0], [1, 3]),
+                 counts_behind(Chart.fan(4), (1, 2, 3)))
+        self.assertEqual(((0, 3), (), (0, 2, 3, 1)), found)
 
 
 if __name__ == "__main__":

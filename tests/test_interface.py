@@ -6,6 +6,8 @@ import inspect
 import unittest
 
 from bentlines.charts import Chart
+from bentlines.counters import Watch
+from bentlines.doors import Weight
 from bentlines.drawings import Drawing
 from bentlines.links import ring_of_links
 from bentlines.loose import loosenings
@@ -42,6 +44,23 @@ FUNCTIONS = {
               "across(chart, place, line)", "side_sum(chart)"),
     "walks": ("distance(lot, other)", "step_toward(chart, place, other)", "walk(chart, place, other)",
               "is_walk(chart, place, lines)"),
+    "lefts": ("left_knots(chart, place)", "right_knots(chart, place)", "abreast(chart, place)",
+              "share_of(knot, place)", "order_through(chart, place)", "row_at(chart, place)",
+              "split_by(chart, place, line)"),
+    "doors": ("weight(step, share, many)", "told_left(size, lot, edge)", "told_right(size, lot, edge)",
+              "left_doors(chart, place, edge)", "right_doors(chart, place, edge)", "door_list(chart, place, edge)",
+              "door_table(chart, place)"),
+    "lots": ("lot_doors(chart, lot)", "right_lot_doors(chart, lot)", "told_doors(size, lot)"),
+    "along": ("along(chart, line, edge)", "told_along(size, line, edge)", "level_line(chart, level)"),
+    "counters": ("gains(chart, lot, knot)", "best_row(drawing, lot)"),
+    "triangles": ("is_triangle(chart, three)", "triangles(chart)", "turned_over(chart, three)",
+                  "triangle_place(chart, three)", "triangles_on(chart, line, side)", "with_sign(chart, sign)"),
+    "closings": ("closing_sides(chart, place)", "closing_by_names(upper, lower)", "triangle_sum(chart)",
+                 "stretches(chart, line)", "closing_place(chart, line, stretch)"),
+    "turnings": ("way_to_fan(chart, sign=1)", "is_way(chart, threes)", "behind_way(chart, threes)",
+                 "differ(chart, other)", "some_way(chart, other)", "bounds(chart, other)",
+                 "both_ways(chart, three, other)"),
+    "gaps": ("counts_behind(chart, three)", "edge_sum(chart)", "edge_sum_told(chart)"),
 }
 
 CLASSES = {
@@ -51,6 +70,8 @@ CLASSES = {
             "__eq__(self, other)", "__len__(self)", "__iter__(self)"),
     Drawing: ("drawings", "__init__(self, size, turns)", "rows(self)", "row_behind(self, many)", "knots(self)",
               "chart(self)", "mirrored(self)", "__eq__(self, other)", "__len__(self)", "__iter__(self)"),
+    Weight: ("doors", "__init__(self, lot)", "__call__(self, chart, knot, edge)"),
+    Watch: ("counters", "__init__(self, lot)", "__call__(self, drawing)"),
 }
 
 
