@@ -3,9 +3,8 @@
 from bentlines.charts import check_chart, check_sound
 from bentlines.crossings import knot_edges
 from bentlines.drawings import check_drawing
-from bentlines.lefts import common
 from bentlines.links import all_knots, knot_from
-from bentlines.threes import MOST_LINES, check_line, lot_of
+from bentlines.threes import MOST_LINES, check_line, common, lot_of
 
 
 def gains(chart, lot, knot):

@@ -3,11 +3,11 @@
 from bentlines.charts import check_chart, check_sound
 from bentlines.crossings import knot_edges
 from bentlines.errors import BadNumber
-from bentlines.lefts import common, lies
+from bentlines.lefts import lies
 from bentlines.links import all_knots, knot_from
 from bentlines.numbers import check_int
 from bentlines.places import check_place, checked_place
-from bentlines.threes import MOST_LINES, check_line, lot_of
+from bentlines.threes import MOST_LINES, check_line, common, lot_of
 
 
 def weight(step, share, many):

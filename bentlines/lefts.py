@@ -6,7 +6,7 @@ from bentlines.drawn import row_behind_lot
 from bentlines.errors import BadLine, NotPlace
 from bentlines.links import all_knots, links_back, with_all_before
 from bentlines.places import checked_place, first_wrong, wrong_in
-from bentlines.threes import MOST_LINES, check_line, lot_of
+from bentlines.threes import MOST_LINES, check_line, common, lot_of
 
 
 def left_knots(chart, place):
@@ -57,11 +57,6 @@ def split_by(chart, place, line):
     if three is not None:
         raise NotPlace(three)
     return (first_wrong(chart, (*lot, line)) is None, first_wrong(chart, lot) is None)
-
-
-def common(lot, other):
-    """Return the lines of lot that are in other, in their order."""
-    return tuple([line for line in lot if line in other])
 
 
 def lies(knot, place):

@@ -109,6 +109,11 @@ def inside(lot, other):
     return all([name in other for name in lot])
 
 
+def common(lot, other):
+    """Return the entries of lot that are in other, in their order."""
+    return tuple([name for name in lot if name in other])
+
+
 def unlike(lot, other):
     """Return the ascending tuple of the entries of just one of the two."""
     only = [name for name in lot if name not in other]

@@ -3,8 +3,11 @@
 import unittest
 
 from bentlines.along import along, level_line
+from bentlines.arms import arms
+from bentlines.balance import is_tight, middle_change
 from bentlines.charts import Chart
 from bentlines.closings import closing_by_names
+from bentlines.convex import convex_change, convex_count, least_convex, middle_signs
 from bentlines.counters import Watch, best_row, gains
 from bentlines.crossings import above, depth, edge_counts, knots_over
 from bentlines.doors import Weight, door_list, door_table, weight
@@ -13,13 +16,20 @@ from bentlines.drawn import count_rows, row_after
 from bentlines.ends import first_knots, last_knots
 from bentlines.errors import BadText
 from bentlines.exchanges import exchanged, orders_apart
+from bentlines.fours import crossing_chords, inner_point, is_convex
 from bentlines.gaps import counts_behind
+from bentlines.hulls import hull_edges, layers, lower_hull, upper_hull
+from bentlines.insides import inside_count, left_of
+from bentlines.lastlines import both, count_orders, either, lots_along, orders, put_in
 from bentlines.lefts import abreast, left_knots, right_knots, row_at, split_by
 from bentlines.links import closed, ready
 from bentlines.loose import loosenings
 from bentlines.lots import lot_doors, told_doors
+from bentlines.middles import balance_of, crossing_pairs, degrees, middle_chords, partners
 from bentlines.places import all_places, wrong_count
 from bentlines.rules import ahead, meetings, ring
+from bentlines.sandwiches import halving, sandwich_odd, sandwiches_of
+from bentlines.shallow import passing, shallow_list, split_off, swept
 from bentlines.sides import across, left_corner, lower_sides, right_corner, upper_sides
 from bentlines.steps import longest_chain, steps_of
 from bentlines.texts import chart_from
@@ -131,6 +141,58 @@ class ExamplesTest(unittest.TestCase):
         found = (closing_by_names([3, 0], [1, 2]), closing_by_names([4, 2, 0], [1, 3]),
                  counts_behind(Chart.fan(4), (1, 2, 3)))
         self.assertEqual(((0, 3), (), (0, 2, 3, 1)), found)
+
+    def test_shallow(self):
+        fan = Chart.fan(5)
+        found = (shallow_list(fan), split_off(fan, 1), passing(fan, 1), swept(fan, 2))
+        self.assertEqual(((0, 5, 10), (0, 2, 3), [(1, 2), (2, 3), (3, 4)], ((1, 2), (3, 4))), found)
+
+    def test_arms_and_hulls(self):
+        chart = arms(2, 1, 1)
+        found = (chart.marks, lower_hull(chart), upper_hull(chart), hull_edges(chart), layers(chart))
+        self.assertEqual(("+---", (0, 3), (0, 2, 3), ((0, 2), (0, 3), (2, 3)), [(0, 2, 3), (1,)]), found)
+
+    def test_fours(self):
+        chart = Chart.told(4, "+++-")
+        found = (is_convex(chart, (3, 1, 0, 2)), inner_point(chart, [0, 1, 2, 3]), crossing_chords(chart, (0, 1, 2, 3)))
+        self.assertEqual((False, 2, None), found)
+
+    def test_convex(self):
+        chart = Chart.fan(6)
+        found = (convex_count(chart), least_convex(6), convex_change(chart, (1, 2, 3)), middle_signs(chart))
+        self.assertEqual((15, 3, -3, (1, 1, 1, 1)), found)
+
+    def test_insides(self):
+        chart = arms(2, 2, 2)
+        found = (convex_count(chart), inside_count(chart, 0), inside_count(chart, 1), inside_count(chart, 2),
+                 left_of(chart, 0, 5))
+        self.assertEqual((3, 0, 4, 0, 4), found)
+
+    def test_middles(self):
+        chart = Chart.fan(4)
+        found = (middle_chords(chart), crossing_pairs(chart), balance_of(chart))
+        self.assertEqual((((0, 2), (1, 3)), (((0, 2), (1, 3)),), (4, 1, 12)), found)
+
+    def test_balance(self):
+        chart = Chart.told(4, "-+++")
+        found = (middle_change(Chart.fan(4), (0, 1, 2)), degrees(chart), partners(chart, 1), is_tight(chart))
+        self.assertEqual((-1, (1, 3, 1, 1), ((0,), (2, 3)), False), found)
+
+    def test_sandwiches(self):
+        chart = Chart.fan(6)
+        lot, other = (0, 2, 5), (1, 3, 4)
+        found = (sandwiches_of(chart, lot, other, 1, 1), sandwich_odd(lot, other, 1, 1), halving(chart, lot, other))
+        self.assertEqual((((0, 1), (2, 1), (2, 3), (5, 4)), False, (0, 3)), found)
+
+    def test_lastlines(self):
+        chart = Chart.fan(3)
+        found = (list(orders(chart, 3)), count_orders(chart, 1), put_in(chart, 3, (2, 0, 1)).marks,
+                 lots_along(3, 1, (1, 0, 2)))
+        told = ([(0, 1, 2), (0, 2, 1), (2, 0, 1), (2, 1, 0)], 4, "++--", ((0,), (0, 1), (1,), (1, 2)))
+        self.assertEqual(told, found)
+        # The rest of this example needs the module through.
+        self.assertEqual(((2, 0, 1), (0, 2, 1)),
+                         (both(chart, (0, 2, 1), (2, 0, 1)), either(chart, (0, 2, 1), (2, 0, 1))))
 
 
 if __name__ == "__main__":

@@ -9,6 +9,7 @@ from bentlines.charts import Chart
 from bentlines.counters import Watch
 from bentlines.doors import Weight
 from bentlines.drawings import Drawing
+from bentlines.lastlines import orders
 from bentlines.links import ring_of_links
 from bentlines.loose import loosenings
 from bentlines.places import all_places
@@ -61,6 +62,24 @@ FUNCTIONS = {
                  "differ(chart, other)", "some_way(chart, other)", "bounds(chart, other)",
                  "both_ways(chart, three, other)"),
     "gaps": ("counts_behind(chart, three)", "edge_sum(chart)", "edge_sum_told(chart)"),
+    "shallow": ("shallow(chart, depth)", "shallow_list(chart)", "shallow_least(depth)", "split_off(chart, depth)",
+                "passing(chart, depth)", "swept(chart, depth)"),
+    "arms": ("arms(a, b, c, *, inner=())", "arm_of(a, b, c, line)"),
+    "hulls": ("hull(chart)", "hull_edges(chart)", "lower_hull(chart)", "upper_hull(chart)", "layers(chart)"),
+    "fours": ("is_convex(chart, four)", "inner_point(chart, four)", "crossing_chords(chart, four)",
+              "parts_ends(chart, pair, other)", "cross(chart, pair, other)"),
+    "convex": ("convex_count(chart)", "convex_by_edges(chart)", "convex_by_shallow(chart)", "least_convex(size)",
+               "convex_change(chart, three)", "middle_signs(chart)", "by_middle(signs)"),
+    "insides": ("within(chart, point, three)", "holding(chart, point)", "inside_count(chart, point)",
+                "left_of(chart, point, other)", "inside_told(chart, point)", "empty_threes(chart)"),
+    "middles": ("middle_chords(chart)", "degrees(chart)", "partners(chart, point)", "crossing_pairs(chart)",
+                "balance_of(chart)", "parted(chart, place)"),
+    "sandwiches": ("sandwiches_of(chart, lot, other, first, second)", "sandwich_odd(lot, other, first, second)",
+                   "halving(chart, lot, other)"),
+    "balance": ("middle_change(chart, three)", "is_tight(chart)", "middle_bound(size)"),
+    "lastlines": ("lots_along(size, name, order)", "put_in(chart, name, order)", "order_of(chart, line)",
+                  "taken_out(chart, line)", "orders(chart, name)", "count_orders(chart, name)",
+                  "both(chart, order, other)", "either(chart, order, other)"),
 }
 
 CLASSES = {
@@ -106,6 +125,7 @@ class InterfaceTest(unittest.TestCase):
         self.assertTrue(inspect.isgenerator(Drawing(1, []).rows()))
         self.assertTrue(inspect.isgenerator(loosenings(Chart.fan(3))))
         self.assertTrue(inspect.isgenerator(all_places(Chart.fan(3))))
+        self.assertTrue(inspect.isgenerator(orders(Chart.fan(3), 3)))
 
     def test_the_package_itself_has_no_names(self):
         with open(importlib.import_module("bentlines").__file__, encoding="ascii") as file:
