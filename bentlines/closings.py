@@ -3,7 +3,7 @@
 from bentlines.charts import check_chart
 from bentlines.crossings import side_at
 from bentlines.errors import BadKind, BadNumber
-from bentlines.links import check_sound_simple
+from bentlines.links import check_simple_chart, check_sound_simple
 from bentlines.numbers import is_int
 from bentlines.places import check_place, endless, places_of
 from bentlines.sides import all_sides, lowers, uppers
@@ -32,8 +32,7 @@ def closing_by_names(upper, lower):
 
 def triangle_sum(chart):
     """Return n - 2 and, for each bounded place with five sides or more, 2 less the number of its closing sides."""
-    check_chart(chart)
-    check_sound_simple(chart)
+    check_simple_chart(chart)
     if chart.size < 3:
         raise BadNumber("size")
     total = chart.size - 2

@@ -1,10 +1,10 @@
 """How many fours of points are convex, told in three ways, and the least number there can be."""
 
-from bentlines.charts import Chart, check_chart, signs_of_four
+from bentlines.charts import Chart, signs_of_four
 from bentlines.crossings import simple_edge
 from bentlines.errors import BadKind, BadSigns
 from bentlines.fours import convex_row
-from bentlines.links import check_sound_simple
+from bentlines.links import check_simple_chart
 from bentlines.numbers import check_int, choose, is_int
 from bentlines.shallow import shallow_numbers
 from bentlines.threes import fours_in, pairs_in, threes_in
@@ -15,15 +15,13 @@ MOST_SIGNS = 14
 
 def convex_count(chart):
     """Return the number of convex fours."""
-    check_chart(chart)
-    check_sound_simple(chart)
+    check_simple_chart(chart)
     return len([four for four in fours_in(chart.lines) if convex_row(signs_of_four(chart, four))])
 
 
 def convex_by_edges(chart):
     """Return the number of convex fours, told by the depths of all meetings."""
-    check_chart(chart)
-    check_sound_simple(chart)
+    check_simple_chart(chart)
     n = chart.size
     depths = [simple_edge(chart, pair) - 1 for pair in pairs_in(chart.lines)]
     return 3 * choose(n, 4) - sum([d * (n - 2 - d) for d in depths])
@@ -31,8 +29,7 @@ def convex_by_edges(chart):
 
 def convex_by_shallow(chart):
     """Return the number of convex fours, told by the shallow numbers."""
-    check_chart(chart)
-    check_sound_simple(chart)
+    check_simple_chart(chart)
     n = chart.size
     m = n // 2
     # Where 2k = n - 1, the factor of the shallow number is 0.
@@ -43,8 +40,7 @@ def convex_by_shallow(chart):
 def least_convex(size):
     """Return the least number of convex fours that so many points can have by the bound of the shallow numbers."""
     check_int(size, "size", 1, None)
-    if size < 3:
-        return 0
+    # Below four points one of the factors is 0.
     return (size // 2) * ((size - 1) // 2) * ((size - 2) // 2) * ((size - 3) // 2) // 4
 
 
@@ -58,8 +54,7 @@ def convex_change(chart, three):
 
 def middle_signs(chart):
     """Return the signs of the points 1 .. n-2 if the signs are told by the middle, else None."""
-    check_chart(chart)
-    check_sound_simple(chart)
+    check_simple_chart(chart)
     if chart.size < 3:
         return None
     told = [chart.lot_sign((0, j, chart.size - 1)) for j in chart.lines[1:-1]]

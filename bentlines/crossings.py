@@ -2,7 +2,7 @@
 
 from bentlines.charts import check_chart, check_sound
 from bentlines.errors import BadLine, NotSimple
-from bentlines.links import all_knots, check_sound_simple, knot_from, knot_of
+from bentlines.links import all_knots, check_simple_chart, knot_from, knot_of
 from bentlines.numbers import check_int
 from bentlines.threes import check_line, pair_of, pairs_in
 
@@ -48,8 +48,7 @@ def edge_of(chart, pair):
 
 def edge_counts(chart):
     """Return for a simple chart 0 and the edge counts of the edges 1 .. n-1."""
-    check_chart(chart)
-    check_sound_simple(chart)
+    check_simple_chart(chart)
     return simple_counts(chart)
 
 

@@ -1,8 +1,7 @@
 """Edge counts behind a turned triangle, and their sum."""
 
-from bentlines.charts import check_chart
 from bentlines.crossings import simple_counts
-from bentlines.links import check_sound_simple
+from bentlines.links import check_simple_chart
 from bentlines.triangles import turned_over
 
 
@@ -13,14 +12,12 @@ def counts_behind(chart, three):
 
 def edge_sum(chart):
     """Return the sum of each edge times its edge count."""
-    check_chart(chart)
-    check_sound_simple(chart)
+    check_simple_chart(chart)
     return sum([edge * many for edge, many in enumerate(simple_counts(chart))])
 
 
 def edge_sum_told(chart):
     """Return the same sum, told by the number of lines and of signs - alone."""
-    check_chart(chart)
-    check_sound_simple(chart)
+    check_simple_chart(chart)
     n = chart.size
     return (n - 1) * n * (n + 1) // 6 + chart.signs.count(-1)

@@ -1,43 +1,37 @@
 """Hulls of points: the lines that stand highest or lowest somewhere, and the layers below them."""
 
-from bentlines.charts import check_chart
 from bentlines.crossings import pairs_at, simple_edge
-from bentlines.links import check_sound_simple
+from bentlines.links import check_simple_chart
 from bentlines.threes import pairs_in
 
 
 def hull(chart):
     """Return the lot of the points on the hull."""
-    check_chart(chart)
-    check_sound_simple(chart)
+    check_simple_chart(chart)
     return hull_of(chart)
 
 
 def hull_edges(chart):
     """Return the chords with no point below them or no point above them, ascending."""
-    check_chart(chart)
-    check_sound_simple(chart)
+    check_simple_chart(chart)
     return tuple([pair for pair in pairs_in(chart.lines) if simple_edge(chart, pair) in (1, chart.size - 1)])
 
 
 def lower_hull(chart):
     """Return the points of the lower hull from left to right."""
-    check_chart(chart)
-    check_sound_simple(chart)
+    check_simple_chart(chart)
     return points_at(chart, 1)
 
 
 def upper_hull(chart):
     """Return the points of the upper hull from left to right."""
-    check_chart(chart)
-    check_sound_simple(chart)
+    check_simple_chart(chart)
     return points_at(chart, chart.size - 1)
 
 
 def layers(chart):
     """Return the list of the layers, the hull first."""
-    check_chart(chart)
-    check_sound_simple(chart)
+    check_simple_chart(chart)
     found = []
     names = chart.lines
     while names:

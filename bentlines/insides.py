@@ -2,7 +2,7 @@
 
 from bentlines.charts import check_chart
 from bentlines.errors import BadLine
-from bentlines.links import check_sound_simple
+from bentlines.links import check_simple_chart, check_sound_simple
 from bentlines.numbers import choose
 from bentlines.threes import check_line, three_of, threes_in
 
@@ -54,8 +54,7 @@ def inside_told(chart, point):
 
 def empty_threes(chart):
     """Return the threes that no point is within, ascending."""
-    check_chart(chart)
-    check_sound_simple(chart)
+    check_simple_chart(chart)
     return tuple([three for three in threes_in(chart.lines) if is_empty(chart, three)])
 
 

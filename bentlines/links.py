@@ -159,6 +159,13 @@ def check_sound_simple(chart):
     check_simple(chart)
 
 
+def check_simple_chart(chart):
+    """Return the value if it is a chart, sound and simple."""
+    check_chart(chart)
+    check_sound_simple(chart)
+    return chart
+
+
 def has_each_once(chart, order):
     """Return whether a list of knots has all knots of the chart, each once."""
     return sorted(order) == list(all_knots(chart))

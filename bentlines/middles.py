@@ -4,7 +4,7 @@ from bentlines.charts import check_chart
 from bentlines.crossings import pairs_at
 from bentlines.errors import BadNumber
 from bentlines.fours import chords_cross
-from bentlines.links import check_sound_simple
+from bentlines.links import check_simple_chart
 from bentlines.places import check_place
 from bentlines.threes import check_line, lot_of, pairs_in
 
@@ -50,8 +50,7 @@ def parted(chart, place):
 
 def checked_even(chart):
     """Return the chart if it is a simple one of evenly many lines."""
-    check_chart(chart)
-    check_sound_simple(chart)
+    check_simple_chart(chart)
     if chart.size % 2 == 1:
         raise BadNumber("size")
     return chart

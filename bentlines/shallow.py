@@ -2,7 +2,7 @@
 
 from bentlines.charts import check_chart
 from bentlines.crossings import side_at, simple_counts, simple_edge
-from bentlines.links import check_sound_simple
+from bentlines.links import check_simple_chart, check_sound_simple
 from bentlines.numbers import check_int
 from bentlines.threes import pairs_in
 from bentlines.triangles import way_on
@@ -16,8 +16,7 @@ def shallow(chart, depth):
 
 def shallow_list(chart):
     """Return the shallow numbers for all depths from 0 that are less than half the number of lines."""
-    check_chart(chart)
-    check_sound_simple(chart)
+    check_simple_chart(chart)
     return shallow_numbers(chart)
 
 

@@ -3,7 +3,7 @@
 from bentlines.charts import check_chart, with_signs
 from bentlines.crossings import lines_above, side_at
 from bentlines.errors import NotTriangle
-from bentlines.links import check_sound_simple
+from bentlines.links import check_simple_chart, check_sound_simple
 from bentlines.numbers import check_one
 from bentlines.rules import levels_on
 from bentlines.threes import check_line, three_of
@@ -19,8 +19,7 @@ def is_triangle(chart, three):
 
 def triangles(chart):
     """Return all triangles, ascending."""
-    check_chart(chart)
-    check_sound_simple(chart)
+    check_simple_chart(chart)
     return triangles_in(ways_of(chart))
 
 

@@ -106,6 +106,7 @@ class InsidesTest(DueCase):
         self.asks_for_chart(left_of, None, None)
         for value in (*NO_INTEGERS, 4, -1):
             self.due(BadLine, {"line": value}, left_of, UNSOUND, value, value)
+            self.due(BadLine, {"line": value}, left_of, UNSOUND, value, 0)
             self.due(BadLine, {"line": value}, left_of, UNSOUND, 0, value)
         self.due(BadLine, {"line": 3}, left_of, UNSOUND, 3, 3)
         self.asks_for_simplicity(left_of, 3, 0)

@@ -8,13 +8,13 @@ from bentlines.crossings import edge_of
 from bentlines.drawings import Drawing
 from bentlines.errors import BadKind, BadLine, BadNumber, NotPlace, NotSimple, TooMany
 from bentlines.lastlines import both, count_orders, either, lots_along, order_of, orders, put_in, taken_out
-from bentlines.places import all_places, is_place, wrong_three
 from bentlines.links import knots_of
+from bentlines.places import all_places, is_place, wrong_three
 from tests.helpers import (NO_INTEGERS, NO_LISTS, UNSOUND, WITH_KNOT, DueCase, drawn_charts, every_drawing,
                            huge_charts, large_charts, large_simple_charts, simple_charts,
                            small_charts, small_simple_charts, some_drawings, told_above, told_knots)
 
-# Charts of 14 lines with just 5000 and 5001 orders that can be put in with the name 11, found by turning triangles over.
+# Charts of 14 lines with just 5000 and 5001 orders with the name 11, found by turning triangles over.
 JUST_5000 = ("++-+--+++-+-+-+---+--+--+---+----++++++++----------+++-+-+++-+-+--+------+-+--+-+---+-----+--------+"
              "+++++++----------+++-+-+++++-+--+------+-+------------++++++++----------+++++-+++++-+--+------+-+--+"
              "++++++++---------+++++-+++++++--+------+-+------------+-----+----+-----------+---+++++++++++++++++--"

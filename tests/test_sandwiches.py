@@ -29,6 +29,8 @@ def every_case():
     for chart in large_simple_charts()[::3] + huge_simple_charts()[::2]:
         lines = list(range(chart.size))
         found += [(chart, lines[::2], lines[1::2]), (chart, lines[:3], lines[4:]), (chart, lines[-2:], lines[1:4])]
+        if chart.size > 11:
+            found += [(chart, lines[:5], lines[5:12]), (chart, lines[4:11], lines[1:4] + lines[11:])]
     return [(*case, i, j) for case in found for i in range(1, len(case[1]) + 1) for j in range(1, len(case[2]) + 1)]
 
 
