@@ -78,6 +78,15 @@ def knot_edges(chart, knot):
     return tuple(range(p + 1, p + len(knot)))
 
 
+def edge_order(chart, knot, edge):
+    """Return min(h, m-h) if the edge is the h-th one of a knot of m lines, 0 if the knot does not go over it."""
+    edges = knot_edges(chart, knot)
+    if edge not in edges:
+        return 0
+    step = edges.index(edge) + 1
+    return min(step, len(knot) - step)
+
+
 def simple_edge(chart, pair):
     """Return the edge that the meeting of an ascending pair of a simple chart goes over; nothing is checked."""
     return len(lines_above(chart, pair)) + 1

@@ -27,8 +27,7 @@ def put_in(chart, name, order):
         raise TooMany("lines")
     check_sound(chart)
     check_along(chart, name, lines)
-    many = chart.size + 1
-    return Chart(many, [sign_with(chart, name, lines, three) for three in threes_in(list(range(many)))])
+    return Chart(chart.size + 1, signs_with(chart, name, lines))
 
 
 def order_of(chart, line):
@@ -111,6 +110,17 @@ def check_along(chart, name, order):
 def old_name(line, name):
     """Return the name that another line has beside no line of this name."""
     return line if line < name else line - 1
+
+
+def name_beside(line, name):
+    """Return the name that an old line has beside a line of this name."""
+    return line if line < name else line + 1
+
+
+def signs_with(chart, name, order):
+    """Return the list of the signs of the chart with a line of this name and order put in; nothing is checked."""
+    lines = list(range(chart.size + 1))
+    return [sign_with(chart, name, order, three) for three in threes_in(lines)]
 
 
 def sign_with(chart, name, order, three):

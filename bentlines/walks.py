@@ -21,12 +21,7 @@ def step_toward(chart, place, other):
 def walk(chart, place, other):
     """Return the list of the lines of a shortest walk from the place to the other place."""
     now, goal = checked_places(chart, place, other)
-    lines = []
-    while now != goal:
-        line = next_side(chart, now, goal)
-        lines.append(line)
-        now = unlike(now, (line,))
-    return lines
+    return walk_between(chart, now, goal)
 
 
 def is_walk(chart, place, lines):
@@ -58,6 +53,17 @@ def check_lines(lines, size):
         raise BadKind("lines")
     for line in lines:
         check_line(line, size)
+    return lines
+
+
+def walk_between(chart, place, other):
+    """Return what walk returns, for ascending places; nothing is checked."""
+    now = place
+    lines = []
+    while now != other:
+        line = next_side(chart, now, other)
+        lines.append(line)
+        now = unlike(now, (line,))
     return lines
 
 

@@ -5,11 +5,14 @@ import unittest
 from bentlines.along import along, level_line
 from bentlines.arms import arms
 from bentlines.balance import is_tight, middle_change
+from bentlines.beside import bundle, stairs
+from bentlines.bricks import brick_steps, bricks_of, orders_of_steps
 from bentlines.charts import Chart
 from bentlines.closings import closing_by_names
 from bentlines.convex import convex_change, convex_count, least_convex, middle_signs
 from bentlines.counters import Watch, best_row, gains
 from bentlines.crossings import above, depth, edge_counts, knots_over
+from bentlines.cups import cap_size, cup_size, cup_table, is_cup_table, longest_cup, most_lines
 from bentlines.doors import Weight, door_list, door_table, weight
 from bentlines.drawings import Drawing
 from bentlines.drawn import count_rows, row_after
@@ -20,6 +23,7 @@ from bentlines.fours import crossing_chords, inner_point, is_convex
 from bentlines.gaps import counts_behind
 from bentlines.hulls import hull_edges, layers, lower_hull, upper_hull
 from bentlines.insides import inside_count, left_of
+from bentlines.joined import joined_places, joined_sides, joined_sum
 from bentlines.lastlines import both, count_orders, either, lots_along, orders, put_in
 from bentlines.lefts import abreast, left_knots, right_knots, row_at, split_by
 from bentlines.links import closed, ready
@@ -27,15 +31,19 @@ from bentlines.loose import loosenings
 from bentlines.lots import lot_doors, told_doors
 from bentlines.middles import balance_of, crossing_pairs, degrees, middle_chords, partners
 from bentlines.places import all_places, wrong_count
+from bentlines.polygons import is_round, most_between, most_round, round_marks
 from bentlines.rules import ahead, meetings, ring
 from bentlines.sandwiches import halving, sandwich_odd, sandwiches_of
+from bentlines.scattered import is_near_point, knot_sizes, near_point, plain_knots
 from bentlines.shallow import passing, shallow_list, split_off, swept
 from bentlines.sides import across, left_corner, lower_sides, right_corner, upper_sides
 from bentlines.steps import longest_chain, steps_of
 from bentlines.texts import chart_from
+from bentlines.through import goes_through, names_through
 from bentlines.ties import parting, tie_lots, tied
 from bentlines.triangles import triangle_place, triangles, turned_over
 from bentlines.turnings import both_ways, bounds, way_to_fan
+from bentlines.zones import zone, zone_sides, zone_sum
 
 
 class ExamplesTest(unittest.TestCase):
@@ -190,9 +198,53 @@ class ExamplesTest(unittest.TestCase):
                  lots_along(3, 1, (1, 0, 2)))
         told = ([(0, 1, 2), (0, 2, 1), (2, 0, 1), (2, 1, 0)], 4, "++--", ((0,), (0, 1), (1,), (1, 2)))
         self.assertEqual(told, found)
-        # The rest of this example needs the module through.
         self.assertEqual(((2, 0, 1), (0, 2, 1)),
                          (both(chart, (0, 2, 1), (2, 0, 1)), either(chart, (0, 2, 1), (2, 0, 1))))
+
+    def test_through(self):
+        chart = Chart.fan(3)
+        found = (names_through(chart, (0, 1), (2, 1)), goes_through(chart, 1, (1, 0, 2), [1]))
+        self.assertEqual(((1, 2), True), found)
+
+    def test_zones(self):
+        chart = Chart.told(4, "++--")
+        told = (((0, 1, 2), (0, 1), (1,), ()), ((0, 2), (0, 1, 2), (0, 1, 2), (0, 1, 2)), (6, 11))
+        self.assertEqual(told, (zone(chart, 3), zone_sides(chart, 3), zone_sum(chart, 3)))
+
+    def test_beside(self):
+        chart = stairs(3, 3)
+        found = (chart.marks, cup_size(chart), cap_size(chart), most_lines(3, 3),
+                 bundle(Chart.fan(3), 1, Chart.fan(2)).marks)
+        self.assertEqual(("-++++++---+++------+", 3, 3, 6, "-+++"), found)
+
+    def test_cups(self):
+        chart = Chart.told(4, "+---")
+        found = (cup_table(chart, 1), longest_cup(chart), is_cup_table(chart, -1, cup_table(chart, 1)))
+        self.assertEqual((((0, 0, 0, 0), (2, 0, 0, 0), (2, 3, 0, 0), (2, 2, 2, 0)), (0, 1, 2), False), found)
+
+    def test_polygons(self):
+        chart = Chart.told(4, "++--")
+        found = (round_marks(chart, (3, 2, 1, 0)), most_round(chart), most_between(chart, 0, 3, -1),
+                 is_round(-chart, [2]))
+        self.assertEqual(((1, -1), (0, 1, 2, 3), 3, True), found)
+
+    def test_bricks(self):
+        chart = bricks_of(4).chart()
+        found = (bricks_of(5).turns, brick_steps(4), orders_of_steps(chart, brick_steps(4)))
+        told = (((0, 2), (3, 2), (1, 3), (0, 2), (3, 2), (1, 3)),
+                [[(0, 1), (2, 3)], [(0, 3)], [(0, 2), (1, 3)], [(1, 2)]], [1, 1])
+        self.assertEqual(told, found)
+
+    def test_joined(self):
+        fan = Chart.fan(3)
+        self.assertEqual(([((), (0, 1, 2)), ((0,), (1, 2)), ((0, 1), (2,)), ((1,),)], 3),
+                         (joined_places(fan), joined_sides(fan, ((), (0, 1, 2)))))
+
+    def test_scattered(self):
+        chart = near_point(4, 1, 1)
+        found = (chart.marks, knot_sizes(chart), plain_knots(chart), is_near_point(chart), joined_sum(chart))
+        # The rest of this example needs the module overs.
+        self.assertEqual(("++0-", (2, 2, 2, 3), ((0, 1), (1, 2), (1, 3)), True, 3), found)
 
 
 if __name__ == "__main__":

@@ -7,6 +7,7 @@ import unittest
 
 from bentlines.charts import Chart
 from bentlines.counters import Watch
+from bentlines.counting import all_charts, extensions
 from bentlines.doors import Weight
 from bentlines.drawings import Drawing
 from bentlines.lastlines import orders
@@ -80,6 +81,20 @@ FUNCTIONS = {
     "lastlines": ("lots_along(size, name, order)", "put_in(chart, name, order)", "order_of(chart, line)",
                   "taken_out(chart, line)", "orders(chart, name)", "count_orders(chart, name)",
                   "both(chart, order, other)", "either(chart, order, other)"),
+    "through": ("names_through(chart, place, other)", "order_through_places(chart, name, place, other)",
+                "goes_through(chart, name, order, place)"),
+    "zones": ("zone(chart, line)", "zone_sides(chart, line)", "zone_sum(chart, line)", "zone_most(size)"),
+    "counting": ("all_charts(size)", "chart_count(size)", "extensions(chart)"),
+    "cups": ("is_cup(chart, lot)", "is_cap(chart, lot)", "cup_table(chart, sign)", "longest_cup(chart)",
+             "longest_cap(chart)", "cup_size(chart)", "cap_size(chart)", "is_cup_table(chart, sign, table)",
+             "most_lines(cup, cap)"),
+    "beside": ("beside_of(chart, other)", "beside_all(*charts)", "stairs(cup, cap)", "bundle(chart, line, other)"),
+    "polygons": ("is_round(chart, lot)", "round_marks(chart, lot)", "most_round(chart)", "round_size(chart)",
+                 "most_between(chart, first, last, sign)"),
+    "scattered": ("is_scattered(chart)", "is_near_point(chart)", "near_point(size, line, after)",
+                  "knot_sizes(chart)", "plain_knots(chart)"),
+    "bricks": ("bricks_of(size)", "brick_steps(size)", "orders_of_steps(chart, steps)"),
+    "joined": ("opposite(size, place)", "joined_places(chart)", "joined_sides(chart, joined)", "joined_sum(chart)"),
 }
 
 CLASSES = {
@@ -126,6 +141,8 @@ class InterfaceTest(unittest.TestCase):
         self.assertTrue(inspect.isgenerator(loosenings(Chart.fan(3))))
         self.assertTrue(inspect.isgenerator(all_places(Chart.fan(3))))
         self.assertTrue(inspect.isgenerator(orders(Chart.fan(3), 3)))
+        self.assertTrue(inspect.isgenerator(all_charts(3)))
+        self.assertTrue(inspect.isgenerator(extensions(Chart.fan(3))))
 
     def test_the_package_itself_has_no_names(self):
         with open(importlib.import_module("bentlines").__file__, encoding="ascii") as file:
