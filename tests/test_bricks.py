@@ -4,7 +4,7 @@ import unittest
 
 from bentlines.bricks import brick_steps, bricks_of, orders_of_steps
 from bentlines.charts import Chart
-from bentlines.crossings import edges_of
+from bentlines.crossings import edges_of, knots_over
 from bentlines.drawings import Drawing
 from bentlines.errors import BadKind, BadNumber, Unsound
 from bentlines.scattered import is_scattered
@@ -25,9 +25,10 @@ def told_turns(size):
 def told_orders(chart, steps):
     """The orders of the crossing steps, by the words of [168]."""
     middle = chart.size // 2
+    knots = knots_over(chart, middle)
     found = []
     for step in steps:
-        over = [knot for knot in step if middle in edges_of(chart, knot)]
+        over = [knot for knot in step if knot in knots]
         if over:
             h = edges_of(chart, over[0]).index(middle) + 1
             found.append(min(h, len(over[0]) - h))
@@ -88,6 +89,7 @@ class OrdersTest(DueCase):
         """[168] The orders; twice their sum is at least n, and so many lists stand between."""
         for chart in even_charts():
             n = chart.size
+            middle = knots_over(chart, n // 2)
             for steps in with_steps(chart):
                 found = orders_of_steps(chart, tuple(map(tuple, steps)))
                 self.assertIsInstance(found, list)
@@ -95,7 +97,7 @@ class OrdersTest(DueCase):
                 self.assertGreaterEqual(2 * sum(found), n)
                 crossing = []
                 for at, step in enumerate(steps):
-                    over = [knot for knot in step if n // 2 in edges_of(chart, knot)]
+                    over = [knot for knot in step if knot in middle]
                     self.assertLessEqual(len(over), 1)
                     crossing += [at] * len(over)
                 for at in range(len(crossing) - 1):

@@ -1,4 +1,4 @@
-"""The examples of the document that use the modules that are there, and what is told beside them."""
+"""All examples of the document."""
 
 import unittest
 
@@ -19,25 +19,35 @@ from bentlines.drawn import count_rows, row_after
 from bentlines.ends import first_knots, last_knots
 from bentlines.errors import BadText
 from bentlines.exchanges import exchanged, orders_apart
+from bentlines.families import family, least_of, own_turns
+from bentlines.fives import Tellings, tellings
 from bentlines.fours import crossing_chords, inner_point, is_convex
 from bentlines.gaps import counts_behind
+from bentlines.going import Going
 from bentlines.hulls import hull_edges, layers, lower_hull, upper_hull
 from bentlines.insides import inside_count, left_of
 from bentlines.joined import joined_places, joined_sides, joined_sum
 from bentlines.lastlines import both, count_orders, either, lots_along, orders, put_in
 from bentlines.lefts import abreast, left_knots, right_knots, row_at, split_by
 from bentlines.links import closed, ready
-from bentlines.loose import loosenings
+from bentlines.listings import door_lines, sheet_lines
+from bentlines.loose import loosened, loosenings
 from bentlines.lots import lot_doors, told_doors
 from bentlines.middles import balance_of, crossing_pairs, degrees, middle_chords, partners
+from bentlines.ninths import is_ninth, nine_points
+from bentlines.overs import crossing_sum, line_knots
 from bentlines.places import all_places, wrong_count
 from bentlines.polygons import is_round, most_between, most_round, round_marks
+from bentlines.ratios import Ratio, ratio_text
 from bentlines.rules import ahead, meetings, ring
 from bentlines.sandwiches import halving, sandwich_odd, sandwiches_of
 from bentlines.scattered import is_near_point, knot_sizes, near_point, plain_knots
 from bentlines.shallow import passing, shallow_list, split_off, swept
+from bentlines.sheets import Sheet
+from bentlines.shifts import all_shifts, point_signs, shifted
 from bentlines.sides import across, left_corner, lower_sides, right_corner, upper_sides
 from bentlines.steps import longest_chain, steps_of
+from bentlines.straights import Straight, order_by_x, place_at
 from bentlines.texts import chart_from
 from bentlines.through import goes_through, names_through
 from bentlines.ties import parting, tie_lots, tied
@@ -242,9 +252,57 @@ class ExamplesTest(unittest.TestCase):
 
     def test_scattered(self):
         chart = near_point(4, 1, 1)
-        found = (chart.marks, knot_sizes(chart), plain_knots(chart), is_near_point(chart), joined_sum(chart))
-        # The rest of this example needs the module overs.
-        self.assertEqual(("++0-", (2, 2, 2, 3), ((0, 1), (1, 2), (1, 3)), True, 3), found)
+        found = (chart.marks, knot_sizes(chart), plain_knots(chart), is_near_point(chart), joined_sum(chart),
+                 crossing_sum(chart, 2), line_knots(chart, 1))
+        told = ("++0-", (2, 2, 2, 3), ((0, 1), (1, 2), (1, 3)), True, 3, 2, ((0, 1), (1, 3), (1, 2)))
+        self.assertEqual(told, found)
+
+    def test_straights(self):
+        straight = Straight((0, 1, 2), [0, 1, 0])
+        spot = straight.meeting((2, 1))
+        found = (straight.chart().marks, ratio_text(spot[0]), ratio_text(spot[1]), order_by_x(straight),
+                 place_at(straight, 0, Ratio(2, 4)))
+        self.assertEqual(("+", "1", "2", ((0, 1), (0, 2), (1, 2)), (1,)), found)
+
+    def test_going(self):
+        going = Going(Straight((0, 1, 2), (0, 1, 0)), (0, -1, 0))
+        first = going.times()[0]
+        found = (ratio_text(first[0]), first[1], going.plain, going.turnings(), going.charts()[1].marks,
+                 going.chart_at(Ratio(1, 2)).marks)
+        self.assertEqual(("1/2", ((0, 1, 2),), True, [(0, 1, 2)], "-", "0"), found)
+
+    def test_ninths(self):
+        points, names = nine_points((0, 0), (2, 0), (5, 0), (1, 2), (4, 2), (7, 2))
+        bent = loosened(points.chart(), (2, 4, 6), [1])
+        found = (names, is_ninth(points.chart(), names), is_ninth(bent, names))
+        self.assertEqual(((0, 3, 7, 1, 5, 8, 2, 4, 6), False, True), found)
+
+    def test_fives(self):
+        paper = Tellings(Chart.fan(5), [((2, 0, 1, 3, 4), "F", "G", True)])
+        found = (tellings(Chart.fan(5), (2, 0, 1, 3, 4)), paper.holds(), paper.words())
+        told = ((("F", "G", True), ("H", "G", True)), False, "chart of 5 lines\n2 0 1 3 4: F < G")
+        self.assertEqual(told, found)
+
+    def test_families(self):
+        found = (len(family(Chart.fan(3))), least_of(Chart.fan(3)).marks, own_turns(Chart.fan(3)))
+        told = (2, "-", [(0, False), (0, True), (2, False), (2, True), (4, False), (4, True)])
+        self.assertEqual(told, found)
+
+    def test_shifts(self):
+        chart = Chart.told(4, "+++-")
+        charts = all_shifts(Drawing.of(chart))
+        found = (shifted(chart, (0, 1)).marks, point_signs(chart, [1, 0, 2, 3]), len(charts), charts[1].marks,
+                 charts[-1].marks)
+        self.assertEqual(("---+", (-1, -1, -1, 1), 7, "---+", "+---"), found)
+
+    def test_sheets_and_listings(self):
+        sheet = Sheet(Drawing.of(Chart.fan(3)))
+        found = (sheet.turn_over((0, 1, 2)).marks, sheet.tie([0, 1, 2]).marks, sheet.records(),
+                 sheet.tried([("loosen", (0, 1, 2), (1,))]).marks, sheet.back().marks, sheet.done)
+        self.assertEqual(("-", "0", ("turn_over", "tie"), "+", "-", 1), found)
+        told = (["name: ", "lines: 3", "edges: 1 2", "knots: 3", "done: 1"],
+                ["   1   1   0", "   2   1   0", "   3   1   0"])
+        self.assertEqual(told, (sheet_lines(sheet), door_lines(Chart.told(4, "+++-"), (3,))))
 
 
 if __name__ == "__main__":

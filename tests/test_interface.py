@@ -10,11 +10,16 @@ from bentlines.counters import Watch
 from bentlines.counting import all_charts, extensions
 from bentlines.doors import Weight
 from bentlines.drawings import Drawing
+from bentlines.fives import Ninth, Paper, Tellings, Tenth
+from bentlines.going import Going
 from bentlines.lastlines import orders
 from bentlines.links import ring_of_links
 from bentlines.loose import loosenings
 from bentlines.places import all_places
+from bentlines.ratios import Ratio
 from bentlines.rules import ring, ringed
+from bentlines.sheets import Sheet, Trial
+from bentlines.straights import Points, Straight
 from bentlines.threes import fours, threes
 
 FUNCTIONS = {
@@ -95,6 +100,19 @@ FUNCTIONS = {
                   "knot_sizes(chart)", "plain_knots(chart)"),
     "bricks": ("bricks_of(size)", "brick_steps(size)", "orders_of_steps(chart, steps)"),
     "joined": ("opposite(size, place)", "joined_places(chart)", "joined_sides(chart, joined)", "joined_sum(chart)"),
+    "overs": ("crossing_sum(chart, edge)", "line_knots(chart, line)", "least_steps(size)"),
+    "ratios": ("compare(first, second)", "mean(first, second)", "ratio_text(ratio)"),
+    "straights": ("three_number(straight, three)", "order_by_x(straight)", "drawing_by_x(straight)",
+                  "place_at(straight, x, y)", "moved(straight, slope, height, x)",
+                  "scaled(straight, slope, height)"),
+    "ninths": ("nine_points(first, second, third, fourth, fifth, sixth)", "ten_points(centre, a, b, c, d, e, f)",
+               "is_ninth(chart, lines)", "is_tenth(chart, lines)", "find_ninth(chart)"),
+    "fives": ("tellings(chart, five)", "five_numbers(straight, five)", "threes_of(five, word)"),
+    "families": ("family(chart)", "least_of(chart)", "carriers(chart, other)", "same_family(chart, other)",
+                 "own_turns(chart)"),
+    "shifts": ("shifted(chart, knot)", "shifted_back(chart, knot)", "new_name(size, knot, line)",
+               "all_shifts(drawing)", "point_signs(chart, names)"),
+    "listings": ("door_lines(chart, place)", "sheet_lines(sheet)", "census(chart)"),
 }
 
 CLASSES = {
@@ -106,6 +124,25 @@ CLASSES = {
               "chart(self)", "mirrored(self)", "__eq__(self, other)", "__len__(self)", "__iter__(self)"),
     Weight: ("doors", "__init__(self, lot)", "__call__(self, chart, knot, edge)"),
     Watch: ("counters", "__init__(self, lot)", "__call__(self, drawing)"),
+    Ratio: ("ratios", "__init__(self, top, bottom=1)", "divided(self, other)", "signum(self)",
+            "__add__(self, other)", "__radd__(self, other)", "__sub__(self, other)", "__rsub__(self, other)",
+            "__mul__(self, other)", "__rmul__(self, other)", "__neg__(self)", "__eq__(self, other)",
+            "__bool__(self)"),
+    Straight: ("straights", "__init__(self, slopes, heights)", "chart(self)", "height_at(self, line, x)",
+               "meeting(self, pair)"),
+    Points: ("straights", "__init__(self, points)", "point(self, line)", "turns_left(self, three)"),
+    Going: ("going", "__init__(self, straight, heights)", "times(self)", "chart_at(self, time)", "charts(self)",
+            "turnings(self)"),
+    Paper: ("fives", "__init__(self, subject)", "holds(self)", "words(self)"),
+    Ninth: ("fives", "__init__(self, subject, lines)", "holds(self)", "words(self)"),
+    Tenth: ("fives", "__init__(self, subject, lines)", "holds(self)", "words(self)"),
+    Tellings: ("fives", "__init__(self, subject, entries)", "holds(self)", "words(self)"),
+    Sheet: ("sheets", "__init__(self, drawing, *, most=200)", "call_it(self, word)", "chart(self)",
+            "exchange(self, at)", "turn_over(self, three)", "tie(self, lot)", "loosen(self, knot, signs)",
+            "put(self, name, order)", "put_through(self, place, other, name)", "take(self, line)",
+            "roll(self, times)", "mirror(self)", "half_turn(self)", "shift(self, knot)", "lay_beside(self, other)",
+            "become(self, chart)", "back(self)", "records(self)", "tried(self, deeds)"),
+    Trial: ("sheets", "__init__(self, sheet)", "__enter__(self)", "__exit__(self, kind, value, trace)"),
 }
 
 
@@ -133,6 +170,11 @@ class InterfaceTest(unittest.TestCase):
             self.assertIsInstance(vars(Chart)[name], property)
         self.assertIsInstance(vars(Drawing)["of"], classmethod)
         self.assertIsInstance(vars(Drawing)["first_row"], staticmethod)
+        self.assertIsInstance(vars(Ratio)["whole"], classmethod)
+        for made, name in ((Going, "plain"), (Sheet, "done"), (Sheet, "name")):
+            self.assertIsInstance(vars(made)[name], property)
+        self.assertEqual((Straight, Paper, Paper, Paper), tuple(
+            made.__base__ for made in (Points, Ninth, Tenth, Tellings)))
 
     def test_yielding(self):
         self.assertTrue(inspect.isgenerator(threes(3)))
