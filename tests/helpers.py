@@ -6,7 +6,10 @@ from functools import cache
 from itertools import combinations, product
 from math import comb
 
+from bentlines.beside import stairs
+from bentlines.bricks import bricks_of
 from bentlines.charts import Chart
+from bentlines.convex import by_middle
 from bentlines.drawings import Drawing
 from bentlines.errors import BadKind, BadLine, BadNumber, NotSimple, NotTriangle, Unsound
 
@@ -210,6 +213,22 @@ def huge_charts():
     """Sound charts of so many lines that not all of their lots can be gone through."""
     drawn = [drawing.chart() for size in (12, 16) for drawing in some_drawings(size, 2)]
     return drawn + [Chart.fan(16), Chart(16, [0] * 560), Chart(5, [0] * 10) + Chart.fan(9)]
+
+
+@cache
+def middle_charts():
+    """Charts of 8 to 16 lines told by the middle, each with its signs."""
+    source = random.Random(4000)
+    told = [tuple(source.choice((1, -1)) for _ in range(size - 2)) for size in (8, 9, 11, 12, 14, 16)]
+    return [(by_middle(signs), signs) for signs in told + [(1, -1) * 7, (-1,) * 5 + (1,) * 9]]
+
+
+@cache
+def built_charts():
+    """Charts of many lines that are not drawn by chance: bricks, stairs, the fan, charts told by the middle."""
+    bricks = [bricks_of(size).chart() for size in (4, 5, 8, 9, 13, 16)]
+    climbed = [stairs(a, b) for a, b in ((3, 3), (2, 8), (3, 4), (4, 3), (3, 5), (16, 2))]
+    return bricks + climbed + [Chart.fan(16)] + [chart for chart, _ in middle_charts()]
 
 
 class DueCase(unittest.TestCase):

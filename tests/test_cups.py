@@ -9,7 +9,8 @@ from bentlines.cups import (cap_size, cup_size, cup_table, is_cap, is_cup, is_cu
                             most_lines)
 from bentlines.errors import BadKind, BadLine, BadNumber
 from tests.helpers import (NO_CHARTS, NO_INTEGERS, NO_LISTS, UNSOUND, WITH_KNOT, DueCase, every_lot,
-                           huge_simple_charts, large_charts, large_simple_charts, small_charts, small_simple_charts)
+                           built_charts, huge_simple_charts, large_charts, large_simple_charts, middle_charts,
+                           small_charts, small_simple_charts)
 
 NO_SIGNS = (*NO_INTEGERS, 0, 2, -2)
 CALLS = ((is_cup, longest_cup, cup_size, 1), (is_cap, longest_cap, cap_size, -1))
@@ -137,6 +138,29 @@ class LongestTest(DueCase):
                 found = longest(chart)
                 self.assertTrue(call(chart, found))
                 self.assertEqual((size(chart), size(chart)), (len(found), max(map(max, cup_table(chart, sign)))))
+
+    def test_charts_told_by_the_middle(self):
+        """[152] There a lot is a cup exactly if all its points but the first and the last have the sign +."""
+        for chart, signs in middle_charts():
+            n = chart.size
+            for _, longest, size, sign in CALLS:
+                many = [0] + [signs[:u].count(sign) for u in range(n - 1)]
+                told = [[0] * n for _ in range(n)]
+                for u, v in combinations(range(n), 2):
+                    told[v][u] = 3 + many[u] if u > 0 and signs[u - 1] == sign else 2
+                self.assertEqual(tuple(map(tuple, told)), cup_table(chart, sign))
+                self.assertEqual(2 + signs.count(sign), size(chart))
+                self.assertEqual((0, *[j for j in range(1, n - 1) if signs[j - 1] == sign], n - 1), longest(chart))
+
+    def test_built_charts(self):
+        """[151] [152] Bricks, stairs, the fan: the longest are what they are said to be, and the tables are tables."""
+        for chart in [chart for chart in built_charts() if chart.simple]:
+            for call, longest, size, sign in CALLS:
+                found, table = longest(chart), cup_table(chart, sign)
+                self.assertTrue(call(chart, found))
+                self.assertIs(True, is_cup_table(chart, sign, table))
+                self.assertEqual((size(chart), max(map(max, table))), (len(found), len(found)))
+            self.assertLessEqual(chart.size, most_lines(cup_size(chart), cap_size(chart)))
 
     def test_fans_and_one_line(self):
         for n in (2, 3, 16):

@@ -129,7 +129,8 @@ class PaperTest(DueCase):
 
     def test_ninth(self):
         """[188] It holds if the lines fit as a ninth."""
-        for chart, lines in ((BENT, NAMES), (-BENT, NAMES), (BENT, NAMES[::-1]), (nine_points(*PAPPUS)[0].chart(), NAMES)):
+        flat = nine_points(*PAPPUS)[0].chart()
+        for chart, lines in ((BENT, NAMES), (-BENT, NAMES), (BENT, NAMES[::-1]), (flat, NAMES)):
             paper = Ninth(chart, list(lines))
             self.assertIsInstance(paper, Paper)
             self.assertEqual((chart, tuple(lines)), (paper.subject, paper.lines))

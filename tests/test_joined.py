@@ -7,9 +7,9 @@ from bentlines.errors import BadKind, BadLine, BadNumber, Together
 from bentlines.joined import joined_places, joined_sides, joined_sum, opposite
 from bentlines.links import knots_of
 from bentlines.places import all_places, endless
-from bentlines.scattered import is_scattered, knot_sizes, plain_knots
+from bentlines.scattered import knot_sizes, plain_knots
 from bentlines.sides import sides
-from tests.helpers import NO_INTEGERS, NO_LISTS, WITH_KNOT, DueCase, huge_charts
+from tests.helpers import NO_INTEGERS, NO_LISTS, WITH_KNOT, DueCase, built_charts, huge_charts
 from tests.test_scattered import scattered_charts
 
 TOGETHER = (Chart.fan(1), Chart.fan(2), Chart.told(3, "0"), Chart(16, [0] * 560))
@@ -56,20 +56,21 @@ class OppositeTest(DueCase):
 class JoinedTest(DueCase):
     def test_every_small_chart(self):
         """[171] The joined places and their sides, how many there are, and at least three sides for each."""
-        for chart in scattered_charts() + [chart for chart in huge_charts()[::2] if is_scattered(chart)]:
+        for chart in scattered_charts() + huge_charts()[1:2] + built_charts()[1::4]:
             told, knots = told_joined(chart), knots_of(chart)
             found = joined_places(chart)
             self.assertIsInstance(found, list)
             self.assertEqual(told, found)
             self.assertEqual(1 + sum(len(knot) - 1 for knot in knots), len(found))
-            many = [joined_sides(chart, joined) for joined in found]
-            self.assertEqual([told_sides(chart, joined) for joined in told], many)
+            many = [told_sides(chart, joined) for joined in told]
+            for at in range(0, len(told), 1 if chart.size < 9 else 17):
+                self.assertEqual(many[at], joined_sides(chart, told[at]))
             self.assertEqual(2 * sum(map(len, knots)), sum(many))
             self.assertGreaterEqual(min(many), 3)
 
     def test_sums(self):
         """[172] As many plain knots as the sum tells; how many joined places have just three sides."""
-        for chart in scattered_charts() + [chart for chart in huge_charts() if is_scattered(chart)]:
+        for chart in scattered_charts() + huge_charts()[:1] + built_charts()[::3]:
             sizes = knot_sizes(chart)
             many = [told_sides(chart, joined) for joined in told_joined(chart)]
             told = 3 + sum(m - 3 for m in sizes if m >= 4) + sum(s - 3 for s in many)

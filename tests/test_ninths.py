@@ -173,7 +173,8 @@ class PointsTest(DueCase):
                             (((0, 0), (2, 0), (5, 0), (0, 2), (4, 2), (7, 2)), "x"),
                             (((0, 0), (0, 1), (0, 2), (3, 0), (3, 5), (3, 9)), "x"),
                             (((0, 0), (2, 0), (6, 0), (0, 2), (2, 2), (6, 2)), "x")):
-            self.assertEqual(word, told_error([tuple(map(Fraction, spot)) for spot in spots], told_nine, FLAT[nine_points]))
+            exact = [tuple(map(Fraction, spot)) for spot in spots]
+            self.assertEqual(word, told_error(exact, told_nine, FLAT[nine_points]))
             self.due(Degenerate, {"word": word}, nine_points, *spots)
         seven = spots_given(DESARGUES)
         for at in range(7):
@@ -183,7 +184,9 @@ class PointsTest(DueCase):
         # Two such triangles of the same form have parallel sides.
         double = ((0, 0), (1, 1), (2, -1), (3, 5), (2, 2), (4, -2), (6, 10))
         self.due(Degenerate, {"word": "meeting"}, ten_points, *double)
-        self.due(Degenerate, {"word": "three"}, ten_points, *double[:6], (6, 11))
+        for at in (4, 5, 6):
+            off = [*double[:at], (double[at][0], 77), *double[at + 1:]]
+            self.due(Degenerate, {"word": "three"}, ten_points, *off)
         self.due(Degenerate, {"word": "x"}, ten_points, (0, 0), (0, 1), (2, -1), (3, 5), (0, 5), (4, -2), (9, 15))
 
     def test_lists_and_integers(self):
@@ -238,6 +241,9 @@ class FitsTest(DueCase):
                 self.assertIs(False, is_tenth(chart, list(range(10))))
         for lines in told_lines():
             self.assertIsNone(find_ninth(straight_of(*lines).chart()))
+        for spots in (PAPPUS, *some_nines()[1:4]):
+            if told_error(spots, told_nine, FLAT[nine_points]) is None:
+                self.assertIsNone(find_ninth(nine_points(*spots_given(spots))[0].chart()))
         grid = Points(sorted((100 * i + j, 100 * j - i) for i in range(4) for j in range(4)))
         self.assertIsNone(find_ninth(grid.chart()))
 

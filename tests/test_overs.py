@@ -72,7 +72,8 @@ class LineKnotsTest(DueCase):
 
 class LeastStepsTest(DueCase):
     def test_numbers(self):
-        self.assertEqual([0, 2, 2, 4, 4, 6, 6, 8, 8, 10, 10, 12, 12, 14, 14, 16], [least_steps(n) for n in range(1, 17)])
+        told = [0, 2, 2, 4, 4, 6, 6, 8, 8, 10, 10, 12, 12, 14, 14, 16]
+        self.assertEqual(told, [least_steps(n) for n in range(1, 17)])
         for value in (*NO_INTEGERS, 0, -1, 17):
             self.due(BadNumber, {"word": "size"}, least_steps, value)
 

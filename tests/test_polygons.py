@@ -2,24 +2,29 @@
 
 import unittest
 from itertools import combinations
-from math import comb
+from math import comb, prod
 
 from bentlines.charts import Chart
-from bentlines.convex import by_middle, convex_count
+from bentlines.convex import convex_count
 from bentlines.cups import cap_size, cup_size, is_cap, is_cup
 from bentlines.errors import BadLine, BadNumber
 from bentlines.fours import is_convex
 from bentlines.hulls import hull
 from bentlines.polygons import is_round, most_between, most_round, round_marks, round_size
 from bentlines.triangles import triangles, turned_over
-from tests.helpers import (NO_INTEGERS, UNSOUND, DueCase, every_lot, huge_simple_charts,
-                           large_simple_charts, simple_charts, small_simple_charts, some_simple_charts)
+from tests.helpers import (NO_INTEGERS, UNSOUND, DueCase, built_charts, every_lot, huge_simple_charts,
+                           large_simple_charts, middle_charts, simple_charts, small_simple_charts, some_simple_charts)
 from tests.test_cups import NO_SIGNS, told_bow
 
 
 def told_round(chart, lot):
     """Whether each four of the lot is convex, by the words of [157]."""
     return all(is_convex(chart, four) for four in combinations(lot, 4))
+
+
+def soon_round(chart, lot):
+    """The same, by the signs of each four ([108]); quick in charts of many lines."""
+    return all(prod(chart.sign(three) for three in combinations(four, 3)) == 1 for four in combinations(lot, 4))
 
 
 def told_marks(chart, lot):
@@ -37,7 +42,7 @@ class RoundTest(DueCase):
         for chart in some_charts():
             for lot in every_lot(range(chart.size)):
                 told = told_round(chart, lot)
-                self.assertIs(told, is_round(chart, lot[::-1]))
+                self.assertEqual((told, told), (is_round(chart, lot[::-1]), soon_round(chart, lot)))
                 marks = round_marks(chart, list(lot))
                 if told and len(lot) >= 3:
                     self.assertEqual(told_marks(chart, lot), marks)
@@ -65,11 +70,23 @@ class RoundTest(DueCase):
                     self.assertTrue(call(chart, [lot[0], *marked, lot[-1]]))
 
     def test_charts_told_by_the_middle(self):
-        for n in (8, 11, 16):
-            signs = [1 if at % 3 else -1 for at in range(n - 2)]
-            chart = by_middle(signs)
-            self.assertEqual(tuple(signs), round_marks(chart, list(range(n))[::-1]))
+        """[157] [158] All points are a round lot, and their marks are the signs."""
+        for chart, signs in middle_charts():
+            n = chart.size
+            self.assertEqual(signs, round_marks(chart, list(range(n))[::-1]))
             self.assertEqual((tuple(range(n)), n), (most_round(chart), round_size(chart)))
+            for sign in (1, -1):
+                self.assertEqual(2 + signs[3:-1].count(sign), most_between(chart, 3, n - 2, sign))
+
+    def test_built_charts(self):
+        """[157] [159] Bricks, stairs and the fan: a round lot, as great as the bounds ask."""
+        for chart in [chart for chart in built_charts() if chart.simple]:
+            found, n = most_round(chart), chart.size
+            self.assertTrue(soon_round(chart, found))
+            self.assertGreaterEqual(convex_count(chart), comb(len(found), 4))
+            self.assertIs(len(found) == n, convex_count(chart) == comb(n, 4))
+            for m in range(3, 6):
+                self.assertTrue(len(found) >= m or n <= comb(2 * m - 4, m - 2))
 
     def test_refusals(self):
         for call in (is_round, round_marks):
@@ -106,7 +123,7 @@ class MostTest(DueCase):
         for chart in huge_simple_charts():
             found = most_round(chart)
             self.assertEqual(round_size(chart), len(found))
-            self.assertEqual([], [four for four in combinations(found, 4) if not is_convex(chart, four)][:1])
+            self.assertTrue(soon_round(chart, found))
         for chart in huge_simple_charts()[:2]:
             best = [sum(most_between(chart, u, w, sign) for sign in (1, -1)) - 2
                     for u, w in combinations(range(chart.size), 2)]

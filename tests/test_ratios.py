@@ -102,7 +102,8 @@ class FunctionsTest(RatioCase):
             for second, high in every_ratio()[::7]:
                 self.assertEqual((first > second) - (first < second), compare(low, high))
                 self.told((first + second) / 2, mean(low, high))
-        self.assertEqual([-1, 0, 1, 0], [compare(1, 2), compare(2, Ratio(4, 2)), compare(Ratio(1, 2), 0), compare(3, 3)])
+        pairs = ((1, 2), (2, Ratio(4, 2)), (Ratio(1, 2), 0), (3, 3))
+        self.assertEqual([-1, 0, 1, 0], [compare(first, second) for first, second in pairs])
         self.told(Fraction(3, 2), mean(1, 2))
         self.told(Fraction(2), mean(1, Ratio(3)))
 

@@ -6,15 +6,15 @@ from itertools import combinations
 from bentlines.charts import Chart
 from bentlines.crossings import side_of
 from bentlines.errors import BadLine, BadNumber
-from bentlines.links import knot_of
+from bentlines.links import knot_of, knots_of
 from bentlines.loose import loosenings, whole_loosened
 from bentlines.places import all_places
 from bentlines.scattered import is_near_point, is_scattered, knot_sizes, near_point, plain_knots
 from bentlines.steps import longest_chain
 from bentlines.ties import tied
 from bentlines.triangles import triangles
-from tests.helpers import (NO_INTEGERS, WITH_KNOT, DueCase, huge_charts, large_charts, large_simple_charts,
-                           simple_charts, small_charts, told_knots)
+from tests.helpers import (NO_INTEGERS, WITH_KNOT, DueCase, built_charts, huge_charts, large_charts,
+                           large_simple_charts, simple_charts, small_charts, told_knots)
 
 
 def told_scattered(chart):
@@ -84,6 +84,17 @@ class ScatteredTest(DueCase):
         for call in (is_scattered, is_near_point, knot_sizes, plain_knots):
             self.asks_for_chart(call)
             self.asks_for_soundness(call)
+
+
+class BuiltTest(DueCase):
+    def test_built_charts(self):
+        """[166] [170] Bricks, stairs, the fan, charts told by the middle: scattered, with more knots than lines."""
+        for chart in built_charts():
+            knots = knots_of(chart)
+            self.assertEqual((True, False), (is_scattered(chart), is_near_point(chart)))
+            self.assertEqual(tuple(sorted(map(len, knots))), knot_sizes(chart))
+            self.assertEqual(tuple(knot for knot in knots if len(knot) == 2), plain_knots(chart))
+            self.assertGreater(len(knots), chart.size)
 
 
 class NearPointTest(DueCase):

@@ -98,7 +98,8 @@ class DeedsTest(SheetCase):
         self.assertEqual(told, sheet.tried([(word, *given)]))
         self.assertEqual((drawing, 0), (sheet.drawing, sheet.done))
         self.assertEqual(told, getattr(sheet, word)(*given))
-        self.assertEqual((told, Drawing.of(told), (word,), 1), (sheet.chart(), sheet.drawing, sheet.records(), sheet.done))
+        self.assertEqual((told, Drawing.of(told)), (sheet.chart(), sheet.drawing))
+        self.assertEqual(((word,), 1), (sheet.records(), sheet.done))
         self.assertEqual(drawing.chart(), sheet.back())
         self.assertEqual((drawing.turns, (), 0), (sheet.drawing.turns, sheet.records(), sheet.done))
         return True
@@ -170,7 +171,8 @@ class DeedsTest(SheetCase):
         sheet.roll(-1)
         for word, given, error, attributes in (
                 ("exchange", [6], BadNumber, {"word": "at"}), ("exchange", [0], NotFar, {"at": 0}),
-                ("turn_over", [None], BadKind, {"word": "three"}), ("turn_over", [(0, 1, 3)], NotTriangle, {"three": (0, 1, 3)}),
+                ("turn_over", [None], BadKind, {"word": "three"}),
+                ("turn_over", [(0, 1, 3)], NotTriangle, {"three": (0, 1, 3)}),
                 ("tie", [[0, 1]], BadKind, {"word": "lot"}), ("tie", [(3, 1, 0)], Parted, {"line": 2, "first": (0, 1)}),
                 ("loosen", [(0, 1, 2), ()], BadKind, {"word": "knot"}), ("loosen", [(0, 1), [1]], BadSigns, {"at": -1}),
                 ("put", [5, None], BadNumber, {"word": "name"}), ("put", [4, (0, 1)], BadKind, {"word": "order"}),
@@ -181,7 +183,8 @@ class DeedsTest(SheetCase):
                 ("put_through", [[0], [3], 0], Degenerate, {"word": "name"}),
                 ("take", [4], BadLine, {"line": 4}), ("roll", [None], BadNumber, {"word": "times"}),
                 ("shift", [(0, 3)], NotReady, {"knot": (0, 3)}), ("shift", [None], BadKind, {"word": "knot"}),
-                ("lay_beside", [None], BadKind, {"word": "chart"}), ("lay_beside", [UNSOUND], Unsound, {"four": (0, 1, 2, 3)}),
+                ("lay_beside", [None], BadKind, {"word": "chart"}),
+                ("lay_beside", [UNSOUND], Unsound, {"four": (0, 1, 2, 3)}),
                 ("lay_beside", [Chart.fan(13)], TooMany, {"word": "lines"}),
                 ("become", [None], BadKind, {"word": "chart"}), ("become", [UNSOUND], Unsound, {"four": (0, 1, 2, 3)})):
             self.refused(sheet, error, attributes, word, *given)

@@ -8,8 +8,8 @@ from bentlines.lastlines import taken_out
 from bentlines.places import all_places
 from bentlines.sides import sides
 from bentlines.zones import zone, zone_most, zone_sides, zone_sum
-from tests.helpers import (NO_INTEGERS, UNSOUND, DueCase, every_lot, huge_simple_charts, large_simple_charts,
-                           small_simple_charts, told_meeting)
+from tests.helpers import (NO_INTEGERS, UNSOUND, DueCase, built_charts, every_lot, huge_simple_charts,
+                           large_simple_charts, small_simple_charts, told_meeting)
 
 
 def with_lines(charts):
@@ -49,7 +49,8 @@ class ZoneTest(DueCase):
 
     def test_large_charts(self):
         """[143] In larger charts, too."""
-        for chart, line in with_lines(large_simple_charts() + huge_simple_charts())[::3]:
+        built = [chart for chart in built_charts() if chart.simple]
+        for chart, line in with_lines(large_simple_charts() + huge_simple_charts() + built)[::3]:
             found = zone(chart, line)
             self.assertEqual(told_zone(chart, line), found)
             if chart.size < 9:
@@ -70,7 +71,8 @@ class SidesTest(DueCase):
 
     def test_bounds(self):
         """[144] At most so many sides; with two lines just so many."""
-        for chart, line in with_lines(small_simple_charts() + large_simple_charts()) + [(Chart.fan(16), 7)]:
+        built = with_lines([chart for chart in built_charts() if chart.simple])[::9]
+        for chart, line in with_lines(small_simple_charts() + large_simple_charts()) + built:
             found, most = zone_sum(chart, line), zone_most(chart.size)
             self.assertLessEqual(found[0], most[0])
             self.assertLessEqual(found[1], most[1])
