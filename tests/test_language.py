@@ -15,6 +15,11 @@ METHODS = set("""__init__ __eq__ __repr__ __str__ __len__ __enter__ __exit__ __c
     __ge__ __ne__ __add__ __sub__ __mul__ __radd__ __rsub__ __rmul__ __neg__ __pos__ __invert__ __abs__ __bool__
     __rshift__ __lshift__ __contains__ __getitem__ __setitem__""".split())
 BARRED = set("register mro elements open input law version_info with_traceback add_note".split())
+# The methods of builtin values that may be called (L25).
+CALLED = set("""append clear copy count endswith extend find get index insert isalnum isalpha isdigit islower isspace
+    isupper items join keys ljust lower lstrip partition pop remove replace reverse rfind rjust rpartition rsplit rstrip
+    setdefault split splitlines startswith strip update upper values zfill bit_length""".split())
+AT_ONCE = set("list tuple dict sorted sum any all enumerate zip min max len".split())
 WORDS = re.compile(r"\b(type|typing|enum|Enum|Generic|Protocol|ABC|namedtuple|NamedTuple|Meta|metaclass)\b")
 
 
@@ -44,6 +49,18 @@ def local_names(tree):
                     yield node.arg
                 elif isinstance(node, ast.Name) and isinstance(node.ctx, ast.Store):
                     yield node.id
+
+
+def with_parents(tree):
+    """All nodes of a tree but the uppermost, each with the one above it."""
+    for node in ast.walk(tree):
+        for child in ast.iter_child_nodes(node):
+            yield child, node
+
+
+def called_name(node):
+    """The bare name that is called, or None."""
+    return node.func.id if isinstance(node, ast.Call) and isinstance(node.func, ast.Name) else None
 
 
 def functions_of(tree):
@@ -144,6 +161,54 @@ class LanguageTest(unittest.TestCase):
         """L17: words that stand in comments and docstrings at the most; here nowhere."""
         for name, text in self.texts.items():
             self.assertIsNone(WORDS.search(text), name)
+
+    def test_methods(self):
+        """L18, L25, L26: methods of builtin values that may be called; own names that these do not have."""
+        theirs = {name for made in (str, int, list, tuple, dict, set, bytes) for name in dir(made)}
+        methods, attributes = {}, {}
+        for tree in self.trees.values():
+            for made in [node for node in ast.walk(tree) if isinstance(node, ast.ClassDef)]:
+                for function in functions_of(made):
+                    if not any(isinstance(mark, ast.Attribute) for mark in function.decorator_list):
+                        methods.setdefault(function.name, set()).add(made.name)
+                    for node in ast.walk(function):
+                        if isinstance(node, ast.Attribute) and isinstance(node.ctx, ast.Store):
+                            attributes.setdefault(node.attr, set()).add(made.name)
+        plain = {name for name in methods if not name.startswith("__")}
+        self.assertEqual(set(), (plain | set(attributes)) & theirs)
+        # The one property that may be assigned.
+        self.assertEqual({"name"}, plain & set(attributes))
+        for name, tree in self.trees.items():
+            for node in ast.walk(tree):
+                if isinstance(node, ast.Call) and isinstance(node.func, ast.Attribute):
+                    self.assertIn(node.func.attr, plain | CALLED | {"__init__"}, name)
+
+    def test_on_the_spot(self):
+        """L7, L23, L24: what is iterated at once, sets that are only measured and sorted, and stars in calls."""
+        for name, tree in self.trees.items():
+            for node, above in with_parents(tree):
+                word = called_name(node)
+                if word in ("zip", "enumerate", "reversed", "range"):
+                    looped = isinstance(above, (ast.For, ast.comprehension)) and above.iter is node
+                    self.assertTrue(looped or called_name(above) in AT_ONCE, name)
+                if word in ("set", "frozenset"):
+                    self.assertIn(called_name(above), ("len", "sorted"), name)
+                if isinstance(node, ast.Starred) and isinstance(above, ast.Call):
+                    self.assertIsInstance(node.value, (ast.Name, ast.Attribute), name)
+
+    def test_errors_and_blocks(self):
+        """L6, L19: only own errors are caught, and __exit__ only assigns attributes."""
+        for name, tree in self.trees.items():
+            for node in ast.walk(tree):
+                if isinstance(node, ast.ExceptHandler):
+                    self.assertTrue(node.type.id.startswith("B"), name)
+                if isinstance(node, ast.Try):
+                    self.assertEqual([], node.finalbody, name)
+                if isinstance(node, ast.FunctionDef) and node.name == "__exit__":
+                    for part in node.body:
+                        self.assertIsInstance(part, ast.Assign)
+                        self.assertIsInstance(part.value, ast.Attribute)
+                self.assertNotIsInstance(node, (ast.AugAssign, ast.Lambda, ast.SetComp), name)
 
     def test_generators(self):
         """L23: no other function or method has the name of a generator."""

@@ -10,10 +10,14 @@ import inspect
 import unittest
 
 from bentlines.charts import Chart
+from bentlines.counters import Watch
+from bentlines.doors import Weight
 from bentlines.drawings import Drawing
 from bentlines.errors import BadKind, BadLine, BadNumber, BadSigns, BadTurn, NotPlace, NotSimple, NotTriangle, Unsound
 from bentlines.fives import Ninth, Paper, Tellings, Tenth
-from bentlines.sheets import Sheet
+from bentlines.going import Going
+from bentlines.sheets import Sheet, Trial
+from bentlines.straights import Straight
 from tests.helpers import NO_CHARTS, NO_INTEGERS, NO_LISTS, UNSOUND, WITH_KNOT, DueCase
 from tests.test_interface import FUNCTIONS
 from tests.test_ratios import NO_RATIOS
@@ -141,7 +145,9 @@ straights.three_number straight three3 | straights.order_by_x straight | straigh
 straights.place_at straight x y | straights.moved straight slope height x | straights.scaled straight slope height
 ratios.compare low high | ratios.mean low high | ratios.ratio_text ratio | fives.threes_of five16 product
 fives.five_numbers straight late | shifts.new_name size:1:16 late late | shifts.all_shifts drawing
-listings.sheet_lines sheet""",
+listings.sheet_lines sheet | .Chart size:1:16 late | .Chart_fan size:1:16 | .Chart_told size:1:16 late
+.Chart_part one | .Chart_sign three | .Drawing size:1:16 late | .Drawing_first_row size:1:16 | .Weight lot16
+.Watch lot16 | .Watch_call drawing | .Sheet drawing | .Trial sheet | .Straight_meeting pair | .Going straight late""",
     SOUND: """
 rules.meetings chart line | links.knot_of chart pair | links.knots_of chart | links.linked chart knot knot
 links.ahead_of chart knot | links.closed chart knots | links.is_closed chart knots | links.ready chart knots
@@ -173,7 +179,7 @@ ninths.is_tenth chart ten | ninths.find_ninth chart | fives.tellings chart five 
 families.least_of chart | families.carriers chart chart | families.same_family chart chart | families.own_turns chart
 shifts.shifted chart knot | shifts.shifted_back chart knot | shifts.point_signs chart names
 listings.door_lines chart place | .Drawing_of chart | .Paper chart | .Ninth chart nine | .Tenth chart ten
-.Tellings chart entries""",
+.Tellings chart entries | .Weight_call chart edge:1:9 knot""",
     SIMPLE: """
 crossings.edge_counts chart | lots.lot_doors chart lot | lots.right_lot_doors chart lot
 along.along chart line edge:1:9 | triangles.is_triangle chart three | triangles.triangles chart
@@ -201,7 +207,12 @@ polygons.is_round chart lot | polygons.round_marks chart lot | polygons.most_rou
 polygons.most_between chart line later sign | listings.census chart""",
 }
 # What the table tells under a name that begins with a dot.
-OTHERS = {"Drawing_of": Drawing.of, "Paper": Paper, "Ninth": Ninth, "Tenth": Tenth, "Tellings": Tellings}
+OTHERS = {"Chart": Chart, "Chart_fan": Chart.fan, "Chart_told": Chart.told, "Chart_part": FAN.part,
+          "Chart_sign": FAN.sign, "Drawing": Drawing, "Drawing_of": Drawing.of, "Drawing_first_row": Drawing.first_row,
+          "Weight": Weight, "Weight_call": lambda chart, edge, knot: Weight([1, 0])(chart, knot, edge),
+          "Watch": Watch, "Watch_call": Watch([9]), "Sheet": Sheet, "Trial": Trial, "Going": Going,
+          "Straight_meeting": Straight(LINES, LINES).meeting, "Paper": Paper, "Ninth": Ninth, "Tenth": Tenth,
+          "Tellings": Tellings}
 # Arguments that are used in one place, where they depend on the good values ahead of them.
 KINDS |= {
     "step": (1, numbers("step"), []),
